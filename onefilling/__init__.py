@@ -1,0 +1,1 @@
+"""Onefilling: puzzles with one filling, their reasons, their hardness, their games."""

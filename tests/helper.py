@@ -1,0 +1,206 @@
+"""What the document says of rules, told once more and as plainly as can be, and kinds to try things with.
+
+Nothing here is taken from the package, so that the package can be compared with it.
+"""
+import itertools
+import random
+
+SORTS = ("unlike", "sum", "below", "steps", "count", "words", "runs", "seen", "joined")
+
+
+class Raised:
+    """The error that a call raised: its class and its attributes."""
+
+    def __init__(self, error):
+        self.kind = type(error)
+        self.told = dict(vars(error))
+
+
+def error_of(function, *values, **named):
+    """The error that the call raises, None if it raises none."""
+    try:
+        function(*values, **named)
+    except Exception as error:  # the tests look at its class
+        return Raised(error)
+    return None
+
+
+def are_neighbours(kind, first, second):
+    (row, column), (other_row, other_column) = divmod(first, kind[1]), divmod(second, kind[1])
+    return abs(row - other_row) + abs(column - other_column) == 1
+
+
+def hangs_together(kind, places):
+    """Whether each place is come to from the first one by neighbours among the places."""
+    if not places:
+        return True
+    come_to = {places[0]}
+    while True:
+        more = {place for place in places if any(are_neighbours(kind, place, other) for other in come_to)}
+        if more <= come_to:
+            return come_to == set(places)
+        come_to |= more
+
+
+def stretches(signs):
+    return tuple(len(list(group)) for sign, group in itertools.groupby(signs) if sign)
+
+
+def holds_plainly(kind, rule, filling):
+    """Whether the rule holds for the filling, by the words of [7]."""
+    sort, parts = rule[0], rule[1:]
+    if sort == "unlike":
+        return all(filling[p] != filling[q] for p, q in itertools.combinations(parts[0], 2))
+    if sort == "sum":
+        return parts[1] <= sum(filling[p] for p in parts[0]) <= parts[2]
+    if sort == "below":
+        return filling[parts[0]] < filling[parts[1]]
+    if sort == "steps":
+        both = (filling[parts[0]], filling[parts[1]])
+        return parts[2] <= max(both) - min(both) <= parts[3]
+    if sort == "count":
+        return parts[2] <= len([p for p in parts[0] if filling[p] in parts[1]]) <= parts[3]
+    if sort == "words":
+        return tuple(filling[p] for p in parts[0]) in parts[1]
+    if sort == "runs":
+        return stretches([filling[p] == parts[1] for p in parts[0]]) == parts[2]
+    if sort == "seen":
+        way = parts[0]
+        return len([k for k in range(len(way)) if all(filling[p] < filling[way[k]] for p in way[:k])]) == parts[1]
+    assert sort == "joined"
+    return hangs_together(kind, [p for p in range(kind[0] * kind[1]) if filling[p] in parts[0]])
+
+
+def all_in(sheet):
+    """All fillings that lie in the sheet, ascending."""
+    return list(itertools.product(*sheet))
+
+
+def good_in(kind, sheet, lot):
+    """All fillings in the sheet that make all rules of the lot hold, ascending."""
+    rules = [kind[3][index] for index in lot]
+    return [filling for filling in all_in(sheet) if all(holds_plainly(kind, rule, filling) for rule in rules)]
+
+
+def all_lots(many):
+    """All lots of so many rules."""
+    return [lot for size in range(many + 1) for lot in itertools.combinations(range(many), size)]
+
+
+def with_worth(sheet, place, worth):
+    return sheet[:place] + ((worth,),) + sheet[place + 1:]
+
+
+def is_number(value, numbers):
+    return type(value) is int and value in numbers
+
+
+def is_tree_plainly(kind, sheet, lot, value, deep=20):
+    """Whether the value is a tree, by the words of [10]; barred is asked of all fillings, one by one."""
+    if type(value) is not tuple or len(value) not in (2, 3) or type(value[0]) is not str:
+        return False
+    if value[0] == "void" and len(value) == 2:
+        return is_number(value[1], range(len(sheet))) and sheet[value[1]] == ()
+    if value[0] == "rule" and len(value) == 2:
+        return is_number(value[1], lot) and not good_in(kind, sheet, (value[1],))
+    if value[0] != "cases" or len(value) != 3 or not is_number(value[1], range(len(sheet))) or deep == 0:
+        return False
+    place, trees = value[1:]
+    if type(trees) is not tuple or len(trees) != len(sheet[place]):
+        return False
+    return all(is_tree_plainly(kind, with_worth(sheet, place, worth), lot, tree, deep - 1)
+               for worth, tree in zip(sheet[place], trees))
+
+
+def some_places(dice, places, fewest):
+    return tuple(sorted(dice.sample(range(places), dice.randint(fewest, places))))
+
+
+def some_way(dice, places):
+    return tuple(dice.sample(range(places), dice.randint(1, places)))
+
+
+def some_lot(dice, worths):
+    return tuple(sorted(dice.sample(range(1, worths + 1), dice.randint(1, worths))))
+
+
+def some_rule(dice, places, worths, sort):
+    """A rule of this sort; where there is one place alone, not unlike, below or steps."""
+    if sort == "unlike":
+        return (sort, some_places(dice, places, 2))
+    if sort == "sum":
+        among = some_places(dice, places, 1)
+        low = dice.randint(0, len(among) * worths + 1)
+        return (sort, among, low, low + dice.randint(0, 3))
+    if sort == "below":
+        return (sort, *dice.sample(range(places), 2))
+    if sort == "steps":
+        low = dice.randint(0, worths - 1)
+        return (sort, *dice.sample(range(places), 2), low, low + dice.randint(0, 2))
+    if sort == "count":
+        among = some_places(dice, places, 1)
+        low = dice.randint(0, len(among))
+        return (sort, among, some_lot(dice, worths), low, low + dice.randint(0, 2))
+    if sort == "words":
+        way = some_way(dice, places)
+        words = {tuple(dice.randint(1, worths) for _ in way) for _ in range(dice.randint(1, 9))}
+        return (sort, way, tuple(sorted(words)))
+    if sort == "runs":
+        way = some_way(dice, places)
+        lengths = [dice.randint(1, max(1, len(way) // 2)) for _ in range(dice.randint(0, (len(way) + 1) // 2))]
+        return (sort, way, dice.randint(1, worths), tuple(lengths))
+    if sort == "seen":
+        return (sort, some_way(dice, places), dice.randint(1, min(places, worths)))
+    return (sort, some_lot(dice, worths))
+
+
+FLOORS = ((1, 1), (1, 2), (2, 1), (2, 2), (1, 4), (4, 1), (2, 3), (3, 2), (3, 3), (2, 4))
+
+
+def most_worths(places):
+    """How many worths there may be so that all fillings are soon listed."""
+    return 6 if places <= 3 else 4 if places <= 4 else 3 if places <= 6 else 2
+
+
+def some_kind(dice, most_rules=5):
+    rows, columns = dice.choice(FLOORS)
+    places = rows * columns
+    worths = dice.randint(2, most_worths(places))
+    sorts = SORTS if places > 1 else ("sum", "count", "words", "runs", "seen", "joined")
+    rules = [some_rule(dice, places, worths, dice.choice(sorts)) for _ in range(dice.randint(0, most_rules))]
+    return (rows, columns, worths, tuple(rules))
+
+
+def some_sheet(dice, kind, voids=0.02):
+    """A sheet of the kind; each lot is void with this likelihood."""
+    lots = []
+    for _ in range(kind[0] * kind[1]):
+        lots.append(() if dice.random() < voids else some_lot(dice, kind[2]))
+    return tuple(lots)
+
+
+def tries(seed, many):
+    """So many pairs of a kind and a sheet of it, the same ones each time."""
+    dice = random.Random(seed)
+    for _ in range(many):
+        kind = some_kind(dice)
+        yield dice, kind, some_sheet(dice, kind)
+
+
+def nested(deep, inmost=()):
+    """A tuple in a tuple in a tuple, so deep."""
+    value = inmost
+    for _ in range(deep):
+        value = (value,)
+    return value
+
+
+# Values that are nothing that the package asks for, of all kinds that may be passed.
+STRANGE = (
+    None, True, False, 0, 1, -1, 7, 10 ** 399, -10 ** 399, "", "kind", "unlike", b"", b"unlike", [], {}, (), set(),
+    [1, 2], (1,), (None,), ((),), ([],), ({},), {"a": 1}, {1: (2,)}, {1, 2}, "\n", ("unlike",), ("unlike", (0, 1)),
+    ["unlike", (0, 1)], (b"unlike", (0, 1)), ("cases", 0, ()), ("rule", 0), ("void", 0), ("rule", [0]), ("void", None),
+    ("cases", 0, [("rule", 0)]), ("cases", {}, {}), ([], 0), ({}, (0, 1)), (("unlike",), (0, 1)), ((), ()), nested(59),
+    nested(59, "x"), nested(58, []), (nested(40), {"a": nested(40)}), tuple(range(1000)), ((1, 2),) * 1000, "x" * 20000,
+    object(), len, int, Ellipsis, range(3), frozenset((1, 2)), bytearray(b"x"),
+)

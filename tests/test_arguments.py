@@ -1,0 +1,237 @@
+"""Arguments and their errors: [3] to [5], for each function of the stage."""
+import copy
+import inspect
+import itertools
+import unittest
+
+from helper import STRANGE, error_of
+
+from onefilling import errors, fillings, kinds
+
+SQUARE = (2, 2, 2, (("unlike", (0, 1)), ("unlike", (0, 2)), ("unlike", (1, 3)), ("unlike", (2, 3))))
+BARE = (1, 2, 2, ())
+SHEET = ((1,), (1, 2), (1, 2), (2,))
+FILLING = (1, 2, 2, 1)
+PUZZLE = (SQUARE, ((0, 1),))
+TREE = ("cases", 1, (("rule", 0), ("rule", 2)))
+
+BAD_KIND = (None, 5, [], (), SQUARE[:3], list(SQUARE), SQUARE + ((),), (2, 2, 7, ()), (True, 2, 2, ()),
+            (2, 2, 2, (("unlike", (0, 4)),)), (5, 1, 2, ()), "kind", PUZZLE, {"rows": 2})
+BAD_PUZZLE = (None, SQUARE, [SQUARE, ()], (SQUARE, ((0, 3),)), (SQUARE, ((0, 1), (0, 2))), (SQUARE[:3], ()), (SQUARE,),
+              (SQUARE, ((True, 1),)), (SQUARE, [(0, 1)]), (SQUARE, ((4, 1),)), "puzzle", ())
+BAD_SHEET = (None, (), SHEET[:3], SHEET + ((),), list(SHEET), ((1,), (2, 1), (1,), (1,)), ((1,), [1], (1,), (1,)),
+             ((1,), (3,), (1,), (1,)), ((1,), (True,), (1,), (1,)), FILLING, "1111", ((1,), (1, 1), (), ()))
+BAD_FILLING = (None, (), FILLING[:3], FILLING + (1,), list(FILLING), (1, 2, 2, 3), (0, 2, 2, 1), (True, 2, 2, 1),
+               SHEET, "1221", {1: 2})
+BAD_INDEX = (None, -1, 4, True, False, "0", (0,), [0], 10 ** 399, -10 ** 399, b"\0", {})
+BAD_PLACE = BAD_INDEX
+BAD_WORTH = (None, 0, 3, -1, True, "1", (1,), [1], 10 ** 399, {}, b"\1")
+BAD_LOT = (None, 0, [0], (4,), (-1,), (1, 0), (0, 0), (True,), (0, None), "0", {0: 1}, ((0,),), (10 ** 399,))
+BAD_MOST = (None, -1, 1001, True, False, "1", (1,), [1], 10 ** 399, -10 ** 399)
+BAD_PLACES = (None, 0, 17, -1, True, "1", (1,), [1], 10 ** 399)
+BAD_WORTHS = (None, 0, 1, 7, -1, True, "2", (2,), [2], 10 ** 399)
+
+# For each function: its parameters, in order, each with a value that is one, the error, values that are none.
+KIND = ("kind", SQUARE, "InvalidKind", BAD_KIND)
+PUZZLES = ("puzzle", PUZZLE, "InvalidPuzzle", BAD_PUZZLE)
+SHEETS = ("sheet", SHEET, "InvalidSheet", BAD_SHEET)
+OTHER = ("other", SHEET, "InvalidSheet", BAD_SHEET)
+FILLINGS = ("filling", FILLING, "InvalidFilling", BAD_FILLING)
+INDEX = ("index", 2, "InvalidNumber", BAD_INDEX)
+PLACE = ("place", 1, "InvalidNumber", BAD_PLACE)
+WORTH = ("worth", 2, "InvalidNumber", BAD_WORTH)
+LOT = ("lot", (0, 2), "InvalidLot", BAD_LOT)
+MOST = ("most", 9, "InvalidNumber", BAD_MOST)
+VALUE = ("value", SHEET, None, ())
+FUNCTIONS = (
+    (kinds.is_rule, (("places", 4, "InvalidNumber", BAD_PLACES), ("worths", 3, "InvalidNumber", BAD_WORTHS), VALUE)),
+    (kinds.is_kind, (VALUE,)),
+    (kinds.is_puzzle, (VALUE,)),
+    (kinds.is_sheet, (KIND, VALUE)),
+    (kinds.is_filling, (KIND, VALUE)),
+    (kinds.holds, (KIND, INDEX, FILLINGS)),
+    (kinds.fills, (KIND, FILLINGS)),
+    (kinds.lies_in, (KIND, FILLINGS, SHEETS)),
+    (kinds.is_within, (KIND, SHEETS, OTHER)),
+    (kinds.is_barred, (KIND, INDEX, SHEETS)),
+    (kinds.whole_sheet, (KIND,)),
+    (kinds.begin, (PUZZLES,)),
+    (kinds.alone, (KIND, SHEETS, PLACE, WORTH)),
+    (kinds.struck, (KIND, SHEETS, PLACE, WORTH)),
+    (fillings.filling_in, (KIND, SHEETS, LOT)),
+    (fillings.tree_for, (KIND, SHEETS, LOT)),
+    (fillings.is_tree, (KIND, SHEETS, LOT, ("value", TREE, None, ()))),
+    (fillings.fillings, (KIND, SHEETS, MOST)),
+    (fillings.the_filling, (PUZZLES,)),
+    (fillings.other_filling, (PUZZLES, FILLINGS)),
+)
+
+
+def good_values(parameters):
+    return [value for name, value, error, bad in parameters]
+
+
+class Arguments(unittest.TestCase):
+    def test_all_functions_of_the_interface_stand_here(self):
+        for module in (kinds, fillings):
+            here = {function.__name__ for function, parameters in FUNCTIONS if function.__module__ == module.__name__}
+            told = {name for name, value in vars(module).items()
+                    if inspect.isfunction(value) and value.__module__ == module.__name__ and not name.startswith("_")}
+            self.assertEqual(here, told)
+
+    def test_the_names_of_the_parameters_in_order(self):
+        for function, parameters in FUNCTIONS:
+            told = inspect.signature(function).parameters.values()
+            self.assertEqual([one.name for one in told], [name for name, *rest in parameters], function)
+            self.assertTrue(all(one.kind == one.POSITIONAL_OR_KEYWORD and one.default is one.empty for one in told))
+
+    def test_by_position_and_by_name(self):
+        for function, parameters in FUNCTIONS:
+            values = good_values(parameters)
+            named = {name: value for (name, *rest), value in zip(parameters, values)}
+            told = function(*values)
+            self.assertEqual(function(**named), told)
+            self.assertEqual(function(*values), told)
+            self.assertEqual(function(**dict(reversed(named.items()))), told)
+            for position in range(len(values)):
+                rest = {name: named[name] for name in list(named)[position:]}
+                self.assertEqual(function(*values[:position], **rest), told)
+
+    def test_each_wrong_argument_by_itself(self):
+        for function, parameters in FUNCTIONS:
+            for at, (name, value, error, bad) in enumerate(parameters):
+                for given in bad:
+                    values = good_values(parameters)
+                    values[at] = given
+                    self.wrong(function, parameters, values, error, given)
+
+    def wrong(self, function, parameters, values, error, given):
+        names = [name for name, *rest in parameters]
+        for told in (error_of(function, *values), error_of(function, **dict(zip(names, values)))):
+            self.assertIsNotNone(told, (function, values))
+            self.assertIs(told.kind, getattr(errors, error), (function, values))
+            self.assertEqual(list(told.told), ["given"])
+            self.assertIs(told.told["given"], given, (function, values))
+
+    def test_of_several_wrong_arguments_the_first_one_in_the_order_of_the_signature(self):
+        for function, parameters in FUNCTIONS:
+            checked = [at for at, (name, value, error, bad) in enumerate(parameters) if error]
+            for size in range(2, len(checked) + 1):
+                for places in itertools.combinations(checked, size):
+                    values = good_values(parameters)
+                    for at in places:
+                        values[at] = parameters[at][3][-1]
+                    first = places[0]
+                    self.wrong(function, parameters, values, parameters[first][2], values[first])
+
+    def test_a_wrong_kind_comes_ahead_of_what_fits_no_kind(self):
+        for function, parameters in FUNCTIONS:
+            if parameters[0][0] in ("kind", "puzzle"):
+                values = [None] + [{}] * (len(parameters) - 1)
+                self.wrong(function, parameters, values, parameters[0][2], None)
+
+    def test_any_value_that_is_told_of_raises_no_other_error(self):
+        for function, parameters in FUNCTIONS:
+            for at, (name, good, error, bad) in enumerate(parameters):
+                for value in STRANGE:
+                    values = good_values(parameters)
+                    values[at] = value
+                    told = error_of(function, *values)
+                    if error is None:
+                        self.assertIsNone(told)
+                    elif told is not None:
+                        self.assertIs(told.kind, getattr(errors, error))
+                        self.assertIs(told.told["given"], value)
+
+    def test_a_list_is_taken_for_no_tuple(self):
+        for function, parameters in FUNCTIONS:
+            for at, (name, value, error, bad) in enumerate(parameters):
+                if isinstance(value, tuple) and error:
+                    values = good_values(parameters)
+                    values[at] = list(value)
+                    self.wrong(function, parameters, values, error, values[at])
+
+    def test_nothing_that_is_passed_is_changed(self):
+        for function, parameters in FUNCTIONS:
+            values = good_values(parameters)
+            before = copy.deepcopy(values)
+            function(*values)
+            self.assertEqual(values, before)
+            for at, (name, value, error, bad) in enumerate(parameters):
+                for given in bad:
+                    changed = good_values(parameters)
+                    changed[at] = given
+                    before = copy.deepcopy(changed)
+                    error_of(function, *changed)
+                    self.assertEqual(changed, before)
+        for value in ([SQUARE], {1: [2]}, [[1, 2], [3]], {"kind": SQUARE}):
+            before = copy.deepcopy(value)
+            for told in (kinds.is_kind(value), kinds.is_puzzle((SQUARE, value)), kinds.is_sheet(SQUARE, value),
+                         kinds.is_filling(SQUARE, value), kinds.is_rule(4, 3, ("sum", value, 0, 1)),
+                         fillings.is_tree(SQUARE, SHEET, (0, 2), ("cases", 1, value))):
+                self.assertIs(told, False)
+            self.assertEqual(value, before)
+
+    def test_the_ends_of_what_numbers_are_asked_for(self):
+        self.assertEqual([error_of(kinds.is_rule, places, 2, ()) is None for places in (0, 1, 16, 17)],
+                         [False, True, True, False])
+        self.assertEqual([error_of(kinds.is_rule, 1, worths, ()) is None for worths in (1, 2, 6, 7)],
+                         [False, True, True, False])
+        self.assertEqual([error_of(fillings.fillings, BARE, ((1,), (1,)), most) is None for most in (-1, 0, 1000, 1001)],
+                         [False, True, True, False])
+        self.assertEqual([error_of(kinds.holds, SQUARE, index, FILLING) is None for index in (-1, 0, 3, 4)],
+                         [False, True, True, False])
+        self.assertEqual([error_of(kinds.is_barred, SQUARE, index, SHEET) is None for index in (-1, 0, 3, 4)],
+                         [False, True, True, False])
+        for function in (kinds.alone, kinds.struck):
+            self.assertEqual([error_of(function, SQUARE, SHEET, place, 1) is None for place in (-1, 0, 3, 4)],
+                             [False, True, True, False])
+            self.assertEqual([error_of(function, SQUARE, SHEET, 0, worth) is None for worth in (0, 1, 2, 3)],
+                             [False, True, True, False])
+
+    def test_a_kind_without_rules_has_no_index_and_one_lot(self):
+        for index in (-1, 0, 1):
+            told = error_of(kinds.holds, BARE, index, (1, 1))
+            self.assertEqual((told.kind, told.told), (errors.InvalidNumber, {"given": index}))
+            told = error_of(kinds.is_barred, BARE, index, ((), ()))
+            self.assertEqual((told.kind, told.told), (errors.InvalidNumber, {"given": index}))
+        for lot, right in (((), None), ((0,), errors.InvalidLot), ((-1,), errors.InvalidLot)):
+            for function in (fillings.filling_in, fillings.tree_for):
+                told = error_of(function, BARE, ((1,), (1,)), lot)
+                self.assertEqual(told and told.kind, right)
+
+    def test_a_sheet_of_another_kind_is_none(self):
+        told = error_of(kinds.is_within, SQUARE, SHEET, ((1, 2),) * 3)
+        self.assertEqual((told.kind, told.told), (errors.InvalidSheet, {"given": ((1, 2),) * 3}))
+        told = error_of(fillings.other_filling, (BARE, ()), FILLING)
+        self.assertEqual((told.kind, told.told), (errors.InvalidFilling, {"given": FILLING}))
+
+    def test_what_is_returned_may_be_passed(self):
+        whole = kinds.whole_sheet(SQUARE)
+        sheet = kinds.struck(SQUARE, kinds.alone(SQUARE, kinds.begin(PUZZLE), 3, 2), 1, 1)
+        self.assertTrue(kinds.is_sheet(SQUARE, whole) and kinds.is_sheet(SQUARE, sheet))
+        self.assertTrue(kinds.is_within(SQUARE, sheet, whole))
+        tree = fillings.tree_for(SQUARE, sheet, (0, 1, 2, 3))
+        self.assertTrue(fillings.is_tree(SQUARE, sheet, (0, 1, 2, 3), tree))
+        for filling in fillings.fillings(SQUARE, whole, 9):
+            self.assertTrue(kinds.is_filling(SQUARE, filling) and kinds.fills(SQUARE, filling))
+            self.assertNotEqual(fillings.other_filling((SQUARE, ()), filling), filling)
+
+    def test_what_is_returned_is_of_the_told_kind(self):
+        for function in (kinds.is_rule, kinds.is_kind, kinds.is_puzzle, kinds.is_sheet, kinds.is_filling, kinds.holds,
+                         kinds.fills, kinds.lies_in, kinds.is_within, kinds.is_barred, fillings.is_tree):
+            parameters = [rows for told, rows in FUNCTIONS if told is function][0]
+            self.assertIs(type(function(*good_values(parameters))), bool)
+        for function in (kinds.whole_sheet, kinds.begin, kinds.alone, kinds.struck):
+            parameters = [rows for told, rows in FUNCTIONS if told is function][0]
+            told = function(*good_values(parameters))
+            self.assertTrue(type(told) is tuple and all(type(lot) is tuple for lot in told))
+            self.assertTrue(all(type(worth) is int for lot in told for worth in lot))
+        told = fillings.fillings(SQUARE, kinds.whole_sheet(SQUARE), 9)
+        self.assertTrue(type(told) is tuple and all(type(filling) is tuple for filling in told))
+        self.assertIs(type(fillings.the_filling(PUZZLE)), tuple)
+        self.assertIs(type(fillings.filling_in(SQUARE, SHEET, ())), tuple)
+
+
+if __name__ == "__main__":
+    unittest.main()
