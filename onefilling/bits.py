@@ -14,6 +14,11 @@ def bits_of(lot):
     return sum(1 << (worth - 1) for worth in lot)
 
 
+def worth_bit(worth):
+    """The number of a lot with this worth alone."""
+    return 1 << (worth - 1)
+
+
 def sheet_bits(sheet):
     """The numbers of a sheet's lots."""
     return [bits_of(lot) for lot in sheet]
@@ -32,6 +37,21 @@ def parts_of(bits):
 def lowest_worth(bits):
     """The least worth of a lot that is not void."""
     return (bits & -bits).bit_length()
+
+
+def worths_in(bits):
+    """The lot with this number."""
+    return tuple([lowest_worth(part) for part in parts_of(bits)])
+
+
+def sheet_of(lots):
+    """The sheet whose lots have these numbers."""
+    return tuple([worths_in(bits) for bits in lots])
+
+
+def lowest_at(number):
+    """Where the lowest bit of a number stands that is not 0."""
+    return (number & -number).bit_length() - 1
 
 
 def span_bits(low, high):

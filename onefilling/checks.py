@@ -1,8 +1,12 @@
 """The errors of arguments: each function raises one where what was given is not what is asked for."""
 
-from onefilling.errors import InvalidFilling, InvalidKind, InvalidLot, InvalidNumber, InvalidPuzzle, InvalidSheet
-from onefilling.forms import is_filling_form, is_kind_form, is_lot_of_rules, is_puzzle_form, is_sheet_form
-from onefilling.forms import is_whole, places_in
+from onefilling.errors import InvalidFilling, InvalidKind, InvalidLot, InvalidLots, InvalidNumber, InvalidOrder
+from onefilling.errors import InvalidPuzzle, InvalidSheet, InvalidStrike
+from onefilling.forms import MOST_RULES, is_filling_form, is_from_0, is_kind_form, is_lot_of_rules, is_puzzle_form
+from onefilling.forms import is_sheet_form, is_strike_form, is_whole, places_in
+
+MOST_LOTS = 1000
+MOST_TURNS = 100
 
 
 def check_number(given, low, high):
@@ -54,3 +58,33 @@ def check_place(kind, given):
 def check_worth(kind, given):
     """A worth of the kind is asked for."""
     check_number(given, 1, kind[2])
+
+
+def check_strike(sheet, given):
+    """A strike of the sheet is asked for."""
+    if not is_strike_form(sheet, given):
+        raise InvalidStrike(given)
+
+
+def check_most(given):
+    """How many rules there are to be at the most is asked for."""
+    check_number(given, 0, MOST_RULES)
+
+
+def check_lots(kind, given):
+    """An ascending tuple of lots of rules is asked for."""
+    if not isinstance(given, tuple) or len(given) > MOST_LOTS:
+        raise InvalidLots(None)
+    for at, lot in enumerate(given):
+        # Compared last: only lots are sure to have an order.
+        if not is_lot_of_rules(kind, lot) or (at > 0 and lot <= given[at - 1]):
+            raise InvalidLots(at)
+
+
+def check_order(given):
+    """A tuple of whole numbers from 0 on is asked for."""
+    if not isinstance(given, tuple) or len(given) > MOST_TURNS:
+        raise InvalidOrder(None)
+    for at, number in enumerate(given):
+        if not is_from_0(number):
+            raise InvalidOrder(at)

@@ -2,6 +2,8 @@
 
 from onefilling.bits import sheet_bits
 from onefilling.checks import check_filling, check_kind, check_lot, check_number, check_puzzle, check_sheet
+from onefilling.families import all_rules, rules_of
+from onefilling.grower import grown
 from onefilling.kinds import begin
 from onefilling.search import Search
 from onefilling.trees import is_tree_for
@@ -12,13 +14,16 @@ MOST_FILLINGS = 1000
 def filling_in(kind, sheet, lot):
     """Any filling in the sheet that makes the lot's rules hold; None."""
     _check_search(kind, sheet, lot)
-    return Search(kind, lot).answer(sheet_bits(sheet))[0]
+    return Search(kind).answer(sheet_bits(sheet), rules_of(lot))[0]
 
 
 def tree_for(kind, sheet, lot):
     """Any tree for the sheet and the lot; None."""
     _check_search(kind, sheet, lot)
-    return Search(kind, lot).answer(sheet_bits(sheet))[1]
+    search = Search(kind)
+    lots = sheet_bits(sheet)
+    filling, rules = search.answer(lots, rules_of(lot))
+    return grown(search.keepers, lots, rules) if filling is None else None
 
 
 def is_tree(kind, sheet, lot, value):
@@ -59,5 +64,4 @@ def _check_search(kind, sheet, lot):
 
 
 def _first_fillings(kind, sheet, most):
-    every_rule = tuple(range(len(kind[3])))
-    return tuple(Search(kind, every_rule).first_fillings(sheet_bits(sheet), most))
+    return tuple(Search(kind).first_fillings(sheet_bits(sheet), all_rules(kind), most))

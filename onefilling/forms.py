@@ -1,10 +1,17 @@
 """Which values are kinds, rules, sheets, fillings and puzzles: told for any value whatever."""
 
+MOST_SIDE = 4
+MOST_WORTHS = 6
 MOST_RULES = 12
 MOST_WORDS = 30
 MOST_LENGTHS = 8
 LONGEST = 16
 HIGHEST = 99
+
+
+def is_from_0(value):
+    """Whether the value is a whole number from 0 on."""
+    return isinstance(value, int) and not isinstance(value, bool) and value >= 0
 
 
 def is_whole(value, low, high):
@@ -131,7 +138,9 @@ def is_kind_form(value):
     if not isinstance(value, tuple) or len(value) != 4:
         return False
     rows, columns, worths, rules = value
-    if not is_whole(rows, 1, 4) or not is_whole(columns, 1, 4) or not is_whole(worths, 2, 6):
+    if not is_whole(rows, 1, MOST_SIDE) or not is_whole(columns, 1, MOST_SIDE):
+        return False
+    if not is_whole(worths, 2, MOST_WORTHS):
         return False
     if not isinstance(rules, tuple) or len(rules) > MOST_RULES:
         return False
@@ -180,3 +189,12 @@ def is_puzzle_form(value):
 def is_lot_of_rules(kind, value):
     """Whether the value is an ascending tuple of indexes of the kind's rules."""
     return is_ascending(value, 0, len(kind[3]) - 1)
+
+
+def is_strike_form(sheet, value):
+    """Whether the value is a pair of a place of the sheet and a worth of its lot."""
+    if not isinstance(value, tuple) or len(value) != 2:
+        return False
+    place, worth = value
+    # As True is no worth, it is not enough that the worth is in the lot.
+    return is_whole(place, 0, len(sheet) - 1) and is_whole(worth, 1, MOST_WORTHS) and worth in sheet[place]

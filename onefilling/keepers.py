@@ -125,10 +125,37 @@ KEEPERS = {
 }
 
 
+# So many lots are remembered at once: a long search would come to more than there is room for.
+MOST_KNOWN = 20000
+
+
+class Remembering:
+    """A keeper that remembers what it kept: in a search the same lots come again and again."""
+
+    def __init__(self, keeper):
+        self.keeper = keeper
+        self.places = keeper.places
+        self.area = sum(1 << place for place in keeper.places)
+        self.known = {}
+
+    def kept(self, lots):
+        key = tuple(lots)
+        if key not in self.known:
+            if len(self.known) == MOST_KNOWN:
+                self.known = {}
+            self.known[key] = self.keeper.kept(lots)
+        return self.known[key]
+
+
 def keeper_of(kind, rule):
     """The keeper of the kind's rule."""
     make = KEEPERS[rule[0]]
     return make(kind, rule)
+
+
+def keepers_of(kind):
+    """The keepers of all rules of the kind, for searches."""
+    return [Remembering(keeper_of(kind, rule)) for rule in kind[3]]
 
 
 def lots_at(lots, places):

@@ -1,157 +1,148 @@
-"""The search through a sheet: a filling that makes all rules of a lot hold, or else a tree that shows there is none."""
+"""The search through a sheet: a filling that makes some rules hold, or else those of the rules that exclude one.
 
-from onefilling.bits import BITS_IN, lowest_worth, parts_of
-from onefilling.keepers import keeper_of, lots_at
+Each rule narrows the lots to what it keeps, and so on, until all keep all; then the search goes on by cases. What fails
+is blamed on rules and on places: with these rules it fails wherever these places have no other worths. So of the rules
+one comes to know those that were needed, and cases of a place that has no part in a failure are not gone through.
+Several rules, and several places, are one number, with a bit for each.
+"""
 
-# Divided by all numbers of rules, from 1 to 12.
-SHARE = 27720
-
-
-class Standing:
-    """How the search stands: the lots, what each rule keeps of them, how many unsettled places each rule has."""
-
-    def __init__(self, lots, keeping, loose):
-        self.lots = lots
-        self.keeping = keeping
-        self.loose = loose
+from onefilling.bits import BITS_IN, lowest_at, lowest_worth, parts_of, worth_bit
+from onefilling.keepers import keepers_of, lots_at
 
 
 class Search:
-    """A search by some rules of a kind."""
+    """A search by rules of a kind."""
 
-    def __init__(self, kind, lot):
-        self.lot = lot
-        self.keepers = [keeper_of(kind, kind[3][index]) for index in lot]
-        self.ties = [[] for place in range(kind[0] * kind[1])]
-        for at, keeper in enumerate(self.keepers):
-            for spot, place in enumerate(keeper.places):
-                self.ties[place].append((at, spot))
+    def __init__(self, kind):
+        self.keepers = keepers_of(kind)
+        self.ties = [0] * (kind[0] * kind[1])
+        for index, keeper in enumerate(self.keepers):
+            for place in keeper.places:
+                self.ties[place] |= 1 << index
+        # How often each rule has failed: it tells where cases are soon decided.
+        self.weights = [1] * len(self.keepers)
 
-    def begun(self, lots):
-        """The standing with these lots."""
-        keeping = [keeper.kept(lots_at(lots, keeper.places)) for keeper in self.keepers]
-        loose = [unsettled_many(lots_at(lots, keeper.places)) for keeper in self.keepers]
-        return Standing(lots, keeping, loose)
+    def answer(self, lots, rules):
+        """A pair: any filling in the lots that makes the rules hold, None; or None, and rules that exclude one."""
+        if 0 in lots:
+            return None, 0
+        filling, blamed, _ = self.tried(list(lots), rules, rules)
+        return filling, (blamed if filling is None else None)
 
-    def settled(self, standing, place, part):
-        """The standing with this worth alone at an unsettled place."""
-        lots = list(standing.lots)
-        keeping = list(standing.keeping)
-        loose = list(standing.loose)
-        lots[place] = part
-        for at, _ in self.ties[place]:
-            keeper = self.keepers[at]
-            keeping[at] = keeper.kept(lots_at(lots, keeper.places))
-            loose[at] -= 1
-        return Standing(lots, keeping, loose)
+    def tried(self, lots, rules, due):
+        """A filling, 0, 0; or None, the rules and the places that are to blame. The lots are narrowed."""
+        trail = []
+        failed = self.narrow(lots, rules, due, trail)
+        if failed is not None:
+            return self.blame(trail, 1 << failed, self.keepers[failed].area)
+        place = self.chosen(lots, rules)
+        if place is None:
+            return tuple([lowest_worth(bits) for bits in lots]), 0, 0
+        blamed = 0
+        area = 1 << place
+        for part in parts_of(lots[place]):
+            inner = list(lots)
+            inner[place] = part
+            filling, some, there = self.tried(inner, rules, self.ties[place] & rules)
+            if filling is not None:
+                return filling, 0, 0
+            if not (there >> place) & 1:
+                # Each other worth would fail for the same.
+                return self.blame(trail, some, there)
+            blamed |= some
+            area |= there
+        return self.blame(trail, blamed, area)
 
-    def left_at(self, standing, place):
-        """The worths at the place that each rule, by itself, keeps."""
-        left = standing.lots[place]
-        for at, spot in self.ties[place]:
-            left &= standing.keeping[at][spot]
-        return left
+    def narrow(self, lots, rules, due, trail):
+        """Narrow the lots to what the rules keep, those that are due first; the index of one that is barred, or None.
 
-    def leaf(self, standing):
-        """A tree without cases, if there is one; None."""
-        if 0 in standing.lots:
-            return ("void", standing.lots.index(0))
-        for at, kept in enumerate(standing.keeping):
-            if 0 in kept:
-                return ("rule", self.lot[at])
+        The trail tells, in order, at which place which rule has narrowed the lot.
+        """
+        while due:
+            index = lowest_at(due)
+            keeper = self.keepers[index]
+            here = lots_at(lots, keeper.places)
+            kept = keeper.kept(here)
+            for place, before, left in zip(keeper.places, here, kept):
+                if left == 0:
+                    self.weights[index] += 1
+                    return index
+                if left != before:
+                    lots[place] = left
+                    trail.append((place, index))
+                    due |= self.ties[place] & rules
+            due &= ~(1 << index)
         return None
 
-    def answer(self, lots):
-        """A pair: any filling in the lots that makes the rules hold, None; or None, and any tree."""
-        standing = self.begun(lots)
-        tree = self.leaf(standing)
-        if tree is not None:
-            return None, tree
-        return self.answer_from(standing)
+    def blame(self, trail, blamed, area):
+        """None, and the rules and the places that are to blame for a failure ahead of what the trail tells."""
+        for place, index in reversed(trail):
+            if (area >> place) & 1:
+                blamed |= 1 << index
+                area |= self.keepers[index].area
+        return None, blamed, area
 
-    def answer_from(self, standing):
-        """The same for a standing in which no rule is barred."""
-        left = [self.left_at(standing, place) for place in range(len(standing.lots))]
-        place = self.chosen(standing, left)
-        if place is None:
-            return tuple([lowest_worth(bits) for bits in left]), None
-        trees = []
-        for part in parts_of(standing.lots[place]):
-            if not part & left[place]:
-                trees.append(("rule", self.barring(standing, place, part)))
-                continue
-            filling, tree = self.answer_from(self.settled(standing, place, part))
-            if filling is not None:
-                return filling, None
-            trees.append(tree)
-        return None, ("cases", place, tuple(trees))
-
-    def chosen(self, standing, left):
-        """The place at which to go on; None if each worth that is left will do.
-
-        Cases are fewest where few worths are left, and where many rules will tell more by what stands there: a rule
-        with no other unsettled place has told all it can.
-        """
+    def chosen(self, lots, rules):
+        """The place at which to go on, with few worths, and with rules that fail often; None if any worths will do."""
         best = None
-        least = 0
-        for place, lot in enumerate(standing.lots):
-            if BITS_IN[lot] < 2:
-                continue
-            if left[place] == 0:
-                return place
-            telling = self.telling(standing, place)
-            if telling == 0:
-                continue
-            cost = SHARE * (BITS_IN[left[place]] - 1) // telling
-            if best is None or cost < least:
+        fewest = 0
+        heaviest = 0
+        for place, lot in enumerate(lots):
+            many = BITS_IN[lot]
+            weight = self.weight_at(place, rules) if many > 1 else 0
+            if weight > 0 and (best is None or many * heaviest < fewest * weight):
                 best = place
-                least = cost
+                fewest = many
+                heaviest = weight
         return best
 
-    def telling(self, standing, place):
-        """How many rules this place has to do with that have another unsettled place, too."""
-        many = 0
-        for at, _ in self.ties[place]:
-            if standing.loose[at] > 1:
-                many += 1
-        return many
+    def weight_at(self, place, rules):
+        """How heavy the rules are, together, that have to do with this place."""
+        ties = self.ties[place] & rules
+        weight = 0
+        while ties:
+            weight += self.weights[lowest_at(ties)]
+            ties &= ties - 1
+        return weight
 
-    def barring(self, standing, place, part):
-        """The index of a rule that does not keep this worth there."""
-        for at, spot in self.ties[place]:
-            if not standing.keeping[at][spot] & part:
-                return self.lot[at]
+    def barring(self, lots, place, worth, rules):
+        """The index of one of the rules that, by itself, does not keep this worth there; None."""
+        ties = self.ties[place] & rules
+        while ties:
+            index = lowest_at(ties)
+            keeper = self.keepers[index]
+            kept = keeper.kept(lots_at(lots, keeper.places))
+            if not kept[keeper.places.index(place)] & worth_bit(worth):
+                return index
+            ties &= ties - 1
         return None
 
-    def first_fillings(self, lots, most):
+    def first_fillings(self, lots, rules, most):
         """The first fillings in the lots that make the rules hold, ascending, up to so many."""
         found = []
-        standing = self.begun(lots)
-        if most > 0 and self.leaf(standing) is None:
-            self.gather(standing, None, most, found)
+        if most > 0 and 0 not in lots:
+            self.gather(list(lots), rules, rules, None, most, found)
         return found
 
-    def gather(self, standing, known, most, found):
+    def gather(self, lots, rules, due, known, most, found):
         """Put the first fillings behind those found; KNOWN is any one in the lots, None if none is known yet."""
-        place = first_unsettled(standing.lots)
-        if place is None:
-            found.append(tuple([lowest_worth(lot) for lot in standing.lots]))
+        if self.narrow(lots, rules, due, []) is not None:
             return
-        for part in parts_of(self.left_at(standing, place)):
-            inner = self.settled(standing, place, part)
-            ahead = known if known is not None and 1 << (known[place] - 1) == part else None
-            # Without this, places behind could fail again and again for what these here have no part in.
-            if ahead is None:
-                ahead = self.answer_from(inner)[0]
-            if ahead is not None:
-                self.gather(inner, ahead, most, found)
+        # Without this, places behind could fail again and again for what those ahead have no part in.
+        ahead = self.tried(list(lots), rules, 0)[0] if known is None else known
+        if ahead is None:
+            return
+        place = first_unsettled(lots)
+        if place is None:
+            found.append(ahead)
+            return
+        for part in parts_of(lots[place]):
+            inner = list(lots)
+            inner[place] = part
+            same = ahead if worth_bit(ahead[place]) == part else None
+            self.gather(inner, rules, self.ties[place] & rules, same, most, found)
             if len(found) == most:
                 return
-
-
-def unsettled_many(lots):
-    """How many of the lots have more worths than one."""
-    return sum(1 for lot in lots if BITS_IN[lot] > 1)
 
 
 def first_unsettled(lots):

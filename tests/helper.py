@@ -87,8 +87,101 @@ def all_lots(many):
     return [lot for size in range(many + 1) for lot in itertools.combinations(range(many), size)]
 
 
+def lots_for(kind, most):
+    """The lots of [18]: all of just MOST rules, of all rules if there are fewer."""
+    many = len(kind[3])
+    return list(itertools.combinations(range(many), min(most, many)))
+
+
 def with_worth(sheet, place, worth):
     return sheet[:place] + ((worth,),) + sheet[place + 1:]
+
+
+def without_worth(sheet, place, worth):
+    return sheet[:place] + (tuple(other for other in sheet[place] if other != worth),) + sheet[place + 1:]
+
+
+def strikes_in(sheet):
+    return [(place, worth) for place, lot in enumerate(sheet) for worth in lot]
+
+
+def is_inside(filling, sheet):
+    return all(worth in lot for worth, lot in zip(filling, sheet))
+
+
+class Listed:
+    """All fillings in a sheet, each with the rules that it meets: from them one sees what follows in sheets within."""
+
+    def __init__(self, kind, sheet):
+        self.kind = kind
+        self.sheet = sheet
+        self.told = [(filling, {index for index, rule in enumerate(kind[3]) if holds_plainly(kind, rule, filling)})
+                     for filling in all_in(sheet)]
+
+    def follows(self, sheet, lot, strike):
+        """[13]: no filling in the sheet that meets the lot's rules has the worth there."""
+        return not any(filling[strike[0]] == strike[1] and is_inside(filling, sheet) and met.issuperset(lot)
+                       for filling, met in self.told)
+
+    def ready(self, sheet, lots):
+        """The strikes of the sheet that follow from one of the lots, ascending."""
+        here = [(filling, met) for filling, met in self.told if is_inside(filling, sheet)]
+        following = set()
+        for lot in lots:
+            backed = {spot for filling, met in here if met.issuperset(lot) for spot in enumerate(filling)}
+            following.update(set(strikes_in(sheet)) - backed)
+        return sorted(following)
+
+    def end(self, sheet, lots, pick=min):
+        """[16]: the end of the sheet, and how many strikes are made, PICK choosing the next one."""
+        many = 0
+        ready = self.ready(sheet, lots)
+        while ready:
+            sheet = without_worth(sheet, *pick(ready))
+            many += 1
+            ready = self.ready(sheet, lots)
+        return sheet, many
+
+    def least(self, sheet, strike):
+        """[14]: all least lots of the strike, ascending."""
+        lots = [lot for lot in all_lots(len(self.kind[3])) if self.follows(sheet, lot, strike)]
+        return sorted(lot for lot in lots if not any(set(other) < set(lot) for other in lots))
+
+
+def is_reason_plainly(kind, sheet, value):
+    """Whether the value is a reason, by the words of [15]."""
+    if type(value) is not tuple or len(value) != 4:
+        return False
+    lot, place, worth, tree = value
+    if type(lot) is not tuple or not all(is_number(index, range(len(kind[3]))) for index in lot):
+        return False
+    if list(lot) != sorted(set(lot)) or not is_number(place, range(len(sheet))) or not is_number(worth, sheet[place]):
+        return False
+    return is_tree_plainly(kind, with_worth(sheet, place, worth), lot, tree)
+
+
+def is_cover_plainly(kind, sheet, lot, value):
+    """Whether the value is a cover, by the words of [17]."""
+    if type(value) is not tuple or len(value) > 96:
+        return False
+    for filling in value:
+        if type(filling) is not tuple or len(filling) != len(sheet):
+            return False
+        if not all(is_number(worth, own) for worth, own in zip(filling, sheet)):
+            return False
+        if not all(holds_plainly(kind, kind[3][index], filling) for index in lot):
+            return False
+    return {spot for filling in value for spot in enumerate(filling)} == set(strikes_in(sheet))
+
+
+def led_plainly(test, kind, sheet, row, most):
+    """The sheet to which a row of reasons leads, each of them tried by the words of [15], with up to MOST rules."""
+    test.assertIs(type(row), tuple)
+    for reason in row:
+        test.assertTrue(is_reason_plainly(kind, sheet, reason), (kind, sheet, reason))
+        test.assertLessEqual(len(reason[0]), most)
+        sheet = without_worth(sheet, reason[1], reason[2])
+    return sheet
 
 
 def is_number(value, numbers):
@@ -177,6 +270,18 @@ def some_sheet(dice, kind, voids=0.02):
     for _ in range(kind[0] * kind[1]):
         lots.append(() if dice.random() < voids else some_lot(dice, kind[2]))
     return tuple(lots)
+
+
+def latin(size, worths):
+    """Rows and columns of unlike worths."""
+    rows = [tuple(range(row * size, row * size + size)) for row in range(size)]
+    columns = [tuple(range(column, size * size, size)) for column in range(size)]
+    return (size, size, worths, tuple(("unlike", line) for line in rows + columns))
+
+
+def some_givens(dice, filling, many):
+    """So many pairs of a place and its worth."""
+    return tuple(sorted(dice.sample(list(enumerate(filling)), many)))
 
 
 def tries(seed, many):

@@ -1,5 +1,7 @@
 """The examples of the interface, word for word; names stay told from one section to the next."""
+import contextlib
 import doctest
+import io
 import unittest
 
 KINDS = """
@@ -29,33 +31,103 @@ FILLINGS = """
 [True, True, True, None]
 """
 
+TEXTS = r"""
+>>> from onefilling.texts import kind_of, kind_text, puzzle_of, puzzle_text, sheet_text
+>>> kind_text(hills)
+'floor 1 4\nworths 3\nsum 0 1 2 : 4 5\nseen 3 2 1 0 : 2\nruns 0 1 2 3 : 1 : 2 1\n'
+>>> [puzzle_text((square, ((0, 1),)))[-16:], puzzle_of(puzzle_text((square, ((0, 1),)))) == (square, ((0, 1),)), kind_of(kind_text(hills)) == hills, sheet_text(square, start)]
+['row 1 .\nrow . .\n', True, True, '1 12\n12 12\n']
+>>> kind_of("floor 1 2\nworths 2\nbelow 0 0\n")
+raises InvalidText(line=2)
+"""
 
-def tried(texts, told=None):
-    """How many examples failed, and how many were tried; what fails is told."""
+REASONS = """
+>>> from onefilling.reasons import follows, is_reason, least_lots, led, rank_of, reason_for, strikes_for
+>>> alike = (1, 2, 2, (("steps", 0, 1, 0, 0), ("sum", (0, 1), 2, 3)))
+>>> both = ((1, 2), (1, 2))
+>>> [follows(alike, both, (0,), (0, 2)), follows(alike, both, (0, 1), (0, 2)), follows(alike, both, (0, 1), (0, 1)), follows(alike, ((1, 2), ()), (), (0, 2))]
+[False, True, False, True]
+>>> [rank_of(alike, both, (0, 2)), rank_of(alike, both, (0, 1)), rank_of(alike, ((2,), (1, 2)), (1, 1)), rank_of(alike, ((1, 2), ()), (0, 1))]
+[2, None, 1, 0]
+>>> [least_lots(alike, both, (0, 2), 2), least_lots(alike, both, (0, 2), 1), least_lots(alike, ((2,), (1, 2)), (1, 2), 2), strikes_for(alike, both, 2), strikes_for(alike, both, 1)]
+[((0, 1),), (), ((1,),), ((0, 2), (1, 2)), ()]
+>>> reason = ((0, 1), 0, 2, ("cases", 1, (("rule", 0), ("rule", 1))))
+>>> [is_reason(alike, both, reason), is_reason(alike, both, ((0,), 0, 2, ("rule", 0))), is_reason(alike, both, reason_for(alike, both, (0, 2), 2)), reason_for(alike, both, (0, 2), 1), led(alike, both, (reason,))]
+[True, False, True, None, ((1,), (1, 2))]
+"""
+
+ENDS = """
+>>> from onefilling.ends import cover_for, covers_for, depths, end, end_by, end_for, is_closed, is_cover, left_by, needed_lots, row_to_end
+>>> [end(alike, both, 2), end(alike, both, 1), end(alike, ((2,), (1, 2)), 1), end(alike, ((1, 2), ()), 0), end_for(alike, both, ((0,), (0, 1))), end_for(alike, both, ())]
+[((1,), (1,)), ((1, 2), (1, 2)), ((), ()), ((), ()), ((1,), (1,)), ((1, 2), (1, 2))]
+>>> [end_by(alike, both, 2, ()), end_by(alike, both, 2, (3, 5)), led(alike, both, row_to_end(alike, both, 2)), depths(alike, both, 2), depths(alike, ((2,), (1, 2)), 1)]
+[(((0, 2), (1, 2)), ((1,), (1,))), (((1, 2), (0, 2)), ((1,), (1,))), ((1,), (1,)), ((0, 2, 1), (1, 2, 1)), ((0, 2, 2), (1, 1, 1), (1, 2, 1))]
+>>> [left_by(alike, both), left_by(alike, ((2,), (1, 2))), needed_lots(alike, both, ((0,), (0, 1), (1,))), is_closed(alike, both, 1), is_closed(alike, both, 2), is_cover(alike, both, (0,), ((1, 1), (2, 2))), is_cover(alike, both, (1,), ((1, 1),))]
+[(4, 4, 2), (3, 0, 0), ((0, 1),), True, False, True, False]
+>>> [cover_for(alike, both, (0, 1)), len(covers_for(alike, both, 1)), covers_for(alike, both, 2), covers_for(alike, ((), ()), 2), cover_for(alike, ((), (1,)), ())]
+[None, 2, None, ((),), None]
+"""
+
+HARDNESS = """
+>>> from onefilling.hardness import hardness, row_up_to, sheet_above
+>>> [hardness((alike, ())), hardness((alike, ((0, 1),))), hardness((alike, ((0, 1), (1, 1)))), hardness((alike, ((0, 2),))), hardness((alike[:3] + (alike[3][:1],), ()))]
+[2, 1, 0, None, None]
+>>> [led(alike, both, row_up_to((alike, ()), 2)), row_up_to((alike, ()), 1), row_up_to((alike, ((0, 1), (1, 1))), 0), sheet_above((alike, ()), 1), sheet_above((alike, ()), 2), row_up_to((alike, ((0, 2),)), 2)]
+[((1,), (1,)), None, (), ((1, 2), (1, 2)), None, None]
+"""
+
+
+def outcome(source, names):
+    """What an example shows: what it prints, or the error that it raises, as the document writes it."""
+    shown = io.StringIO()
+    try:
+        with contextlib.redirect_stdout(shown):
+            exec(compile(source, "interface", "single"), names)
+    except Exception as error:  # whatever it is, it is compared
+        told = ", ".join(f"{name}={value!r}" for name, value in vars(error).items())
+        return f"raises {type(error).__name__}({told})\n"
+    return shown.getvalue()
+
+
+def tried(texts):
+    """How many examples there are, and those that show something else than what stands there."""
     names = {}
-    failed = 0
     many = 0
+    failed = []
     for text in texts:
-        test = doctest.DocTestParser().get_doctest(text, names, "interface", None, None)
-        runner = doctest.DocTestRunner(verbose=False)
-        runner.run(test, out=told, clear_globs=False)
-        names = test.globs
-        failed += runner.failures
-        many += runner.tries
-    return failed, many
+        for example in doctest.DocTestParser().get_examples(text):
+            many += 1
+            shown = outcome(example.source, names)
+            if shown != example.want:
+                failed.append((example.source, example.want, shown))
+    return many, failed
 
 
 class Examples(unittest.TestCase):
     def test_kinds(self):
-        self.assertEqual(tried([KINDS]), (0, 8))
+        self.assertEqual(tried([KINDS]), (8, []))
 
     def test_fillings(self):
-        self.assertEqual(tried([KINDS, FILLINGS]), (0, 14))
+        self.assertEqual(tried([KINDS, FILLINGS]), (14, []))
+
+    def test_texts(self):
+        self.assertEqual(tried([KINDS, FILLINGS, TEXTS]), (18, []))
+
+    def test_reasons(self):
+        self.assertEqual(tried([KINDS, REASONS]), (16, []))
+
+    def test_ends(self):
+        self.assertEqual(tried([KINDS, REASONS, ENDS]), (21, []))
+
+    def test_hardness(self):
+        self.assertEqual(tried([KINDS, REASONS, ENDS, HARDNESS]), (24, []))
 
     def test_a_wrong_answer_is_noticed(self):
-        told = []
-        self.assertEqual(tried([">>> 1 + 1\n3\n"], told.append), (1, 1))
-        self.assertTrue(told)
+        for text, shown in ((">>> 1 + 1\n3\n", "2\n"), (">>> 1 + 1\nraises ValueError()\n", "2\n"),
+                            (">>> {}[1]\n1\n", "raises KeyError()\n"), (">>> x = 1\n1\n", "")):
+            self.assertEqual([told for source, want, told in tried([text])[1]], [shown])
+        wrong = TEXTS.replace("line=2", "line=1")
+        self.assertEqual([told for source, want, told in tried([KINDS, wrong])[1]], ["raises InvalidText(line=2)\n"])
 
 
 if __name__ == "__main__":

@@ -2,8 +2,8 @@
 import random
 import unittest
 
-from helper import (SORTS, STRANGE, all_lots, good_in, holds_plainly, is_tree_plainly, some_rule, some_sheet, tries,
-                    with_worth)
+from helper import (SORTS, STRANGE, all_lots, good_in, holds_plainly, is_tree_plainly, latin, some_rule, some_sheet,
+                    tries, with_worth)
 
 from onefilling.fillings import filling_in, fillings, is_tree, other_filling, the_filling, tree_for
 from onefilling.kinds import begin, fills, is_kind, lies_in, whole_sheet
@@ -14,13 +14,6 @@ FREE = (2, 2, 2, ())
 
 def all_rules(kind):
     return tuple(range(len(kind[3])))
-
-
-def latin(size, worths):
-    """Rows and columns of unlike worths."""
-    rows = [tuple(range(row * size, row * size + size)) for row in range(size)]
-    columns = [tuple(range(column, size * size, size)) for column in range(size)]
-    return (size, size, worths, tuple(("unlike", line) for line in rows + columns))
 
 
 class Fillings(unittest.TestCase):

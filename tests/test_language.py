@@ -17,7 +17,7 @@ BUILTINS = {"len", "range", "enumerate", "zip", "min", "max", "sum", "abs", "sor
 METHODS = {"append", "clear", "copy", "count", "endswith", "extend", "find", "get", "index", "insert", "isalnum",
            "isalpha", "isdigit", "items", "join", "keys", "lower", "pop", "remove", "replace", "reverse", "rfind",
            "setdefault", "split", "splitlines", "startswith", "strip", "update", "upper", "values", "zfill",
-           "bit_length", "add"}
+           "bit_length", "add", "isascii"}
 WORDS = ("type", "typing", "typing_extensions", "enum", "Enum", "IntEnum", "StrEnum", "Flag", "IntFlag", "Generic",
          "Protocol", "ABC", "ABCMeta", "namedtuple", "NamedTuple", "TypedDict", "TYPE_CHECKING", "abstractmethod")
 BARRED = {"register", "mro", "elements", "open", "input", "law", "version_info", "with_traceback", "add_note",
@@ -26,6 +26,7 @@ BARRED = {"register", "mro", "elements", "open", "input", "law", "version_info",
 
 
 NAMES = set(vars(builtins)) - {"_"}
+LIBRARY = {"itertools": {"combinations", "permutations", "product"}, "math": {"gcd", "lcm", "isqrt", "comb"}}
 
 
 def trees():
@@ -70,7 +71,11 @@ class Language(unittest.TestCase):
             imported[name] = []
             for node in ast.walk(tree):
                 self.assertNotIsInstance(node, ast.Import, path)
-                if isinstance(node, ast.ImportFrom):
+                if isinstance(node, ast.ImportFrom) and node.module in LIBRARY:
+                    names = {alias.name for alias in node.names}
+                    self.assertLessEqual(names, LIBRARY[node.module], path)
+                    self.assertFalse(names & set(names_bound(tree)), path)
+                elif isinstance(node, ast.ImportFrom):
                     self.assertEqual(node.level, 0)
                     self.assertTrue(node.module.startswith("onefilling."), (path, node.module))
                     imported[name].append(node.module)
@@ -121,6 +126,7 @@ class Language(unittest.TestCase):
     def test_calls(self):
         own = {node.name for path, text, tree in trees() for node in ast.walk(tree)
                if isinstance(node, (ast.FunctionDef, ast.ClassDef))}
+        own = own.union(*LIBRARY.values())
         for path, text, tree in trees():
             tables = {"form", "told", "make"}
             for node in ast.walk(tree):
@@ -132,7 +138,7 @@ class Language(unittest.TestCase):
                 if isinstance(node, ast.Name) and node.id in NAMES:
                     self.assertIn(node.id, BUILTINS, path)
                 if isinstance(node, ast.Call) and ast.unparse(node.func) == "set":
-                    self.assertIn(f"len({ast.unparse(node)})", ast.unparse(tree), path)
+                    self.assertRegex(ast.unparse(tree), rf"(len|sorted)\({re.escape(ast.unparse(node))}\)", path)
 
     def test_names(self):
         for path, text, tree in trees():
