@@ -39,7 +39,7 @@ class Search:
         if place is None:
             return tuple([lowest_worth(bits) for bits in lots]), 0, 0
         blamed = 0
-        area = 1 << place
+        area = 0
         for part in parts_of(lots[place]):
             inner = list(lots)
             inner[place] = part

@@ -77,20 +77,20 @@ class Watch:
         for core in cores:
             if self.family.holder(core) is not None:
                 return core
-        missing = self.missing(place, worth)
+        missing = self.unserved(place, worth)
         while missing:
             wanted = self.family.numbers[lowest_at(missing)]
-            core = self.core(place, worth, self.widened(wanted, cores))
+            core = self.core_among(place, worth, self.widened(wanted, cores))
             if core is not None:
                 if self.family.holder(core) is None:
                     core = self.shrunk(place, worth, core)
                 cores.append(core)
                 if self.family.holder(core) is not None:
                     return core
-            missing = self.missing(place, worth)
+            missing = self.unserved(place, worth)
         return None
 
-    def missing(self, place, worth):
+    def unserved(self, place, worth):
         """The lots of the family whose rules no filling is known to meet that has the strike."""
         return self.family.everyone & ~self.served.get((place, worth), 0)
 
@@ -102,7 +102,7 @@ class Watch:
                 rules |= bit
         return rules
 
-    def core(self, place, worth, rules):
+    def core_among(self, place, worth, rules):
         """Those of the rules from which the strike follows; None if it doesn't, and a filling is kept."""
         lots = list(self.lots)
         lots[place] = worth_bit(worth)
@@ -116,7 +116,7 @@ class Watch:
         least = rules
         for bit in parts_of(rules):
             if bit & least and not self.is_met(place, worth, least & ~bit):
-                core = self.core(place, worth, least & ~bit)
+                core = self.core_among(place, worth, least & ~bit)
                 least = least if core is None else core
         return least
 
@@ -125,7 +125,7 @@ class Watch:
         cores = []
         for wanted in [rules_of(lot) for lot in lots]:
             while not has_core(cores, wanted) and not self.is_met(place, worth, wanted):
-                core = self.core(place, worth, self.widened(wanted, cores))
+                core = self.core_among(place, worth, self.widened(wanted, cores))
                 if core is not None:
                     cores.append(self.shrunk(place, worth, core))
         return cores

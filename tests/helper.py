@@ -279,6 +279,26 @@ def latin(size, worths):
     return (size, size, worths, tuple(("unlike", line) for line in rows + columns))
 
 
+def pair_rule(dice, filling, worths):
+    """A rule of two places, that does not tell much alone; for the filling it mostly holds."""
+    one, two = dice.sample(range(len(filling)), 2)
+    words = {(filling[one], filling[two])}
+    for _ in range(dice.randint(1, worths * worths // 2 + 1)):
+        words.add((dice.randint(1, worths), dice.randint(1, worths)))
+    both = tuple(sorted((one, two)))
+    low = filling[one] + filling[two]
+    return dice.choice((("words", (one, two), tuple(sorted(words))), ("words", (one, two), tuple(sorted(words))),
+                        ("steps", one, two, 1, 2), ("unlike", both), ("sum", both, low, low + 1)))
+
+
+def pairs_kind(dice):
+    """A kind of rules that tell little alone, but something together; mostly it has a filling."""
+    kind = dice.choice(((1, 3, 3), (2, 2, 3), (2, 2, 4), (1, 4, 3), (2, 3, 2), (3, 2, 3))) + ((),)
+    filling = tuple(dice.randint(1, kind[2]) for _ in range(kind[0] * kind[1]))
+    rules = [pair_rule(dice, filling, kind[2]) for _ in range(dice.randint(3, 9))]
+    return kind[:3] + (tuple(rule for rule in rules if holds_plainly(kind, rule, filling)),)
+
+
 def some_givens(dice, filling, many):
     """So many pairs of a place and its worth."""
     return tuple(sorted(dice.sample(list(enumerate(filling)), many)))
@@ -290,6 +310,15 @@ def tries(seed, many):
     for _ in range(many):
         kind = some_kind(dice)
         yield dice, kind, some_sheet(dice, kind)
+
+
+def listed(seed, many, voids=0.02, most_rules=4):
+    """So many small kinds with sheets, and all fillings in them."""
+    dice = random.Random(seed)
+    for _ in range(many):
+        kind = some_kind(dice, most_rules)
+        sheet = some_sheet(dice, kind, voids)
+        yield dice, kind, sheet, Listed(kind, sheet)
 
 
 def nested(deep, inmost=()):

@@ -3,8 +3,8 @@ import itertools
 import random
 import unittest
 
-from helper import (STRANGE, Listed, all_in, all_lots, is_cover_plainly, is_inside, latin, led_plainly, lots_for,
-                    some_givens, some_kind, some_rule, some_sheet, strikes_in, tries, without_worth)
+from helper import (STRANGE, Listed, all_in, all_lots, is_cover_plainly, is_inside, latin, led_plainly, listed,
+                    lots_for, pairs_kind, some_givens, some_rule, strikes_in, tries, without_worth)
 
 from onefilling.ends import (cover_for, covers_for, depths, end, end_by, end_for, is_closed, is_cover, left_by,
                              needed_lots, row_to_end)
@@ -25,15 +25,6 @@ ODD = (4, 4, 2, tuple(("steps", BORDER[at], BORDER[(at + 1) % 12], 1 if at else 
 def numbers_for(kind):
     """All numbers of rules, and some above."""
     return list(range(len(kind[3]) + 2)) + [12]
-
-
-def listed(seed, many, voids=0.02, most_rules=4):
-    """Small kinds with sheets, and all fillings in them."""
-    dice = random.Random(seed)
-    for _ in range(many):
-        kind = some_kind(dice, most_rules)
-        sheet = some_sheet(dice, kind, voids)
-        yield dice, kind, sheet, Listed(kind, sheet)
 
 
 def some_lots(dice, kind, most):
@@ -222,6 +213,36 @@ class Rounds(unittest.TestCase):
                 self.assertEqual(left, end(kind, sheet, most))
                 deepest = max(deepest, depth - 1)
         self.assertGreater(deepest, 2)
+
+    def test_strikes_behind_others_that_several_rules_tell(self):
+        dice = random.Random(62)
+        deep = 0
+        for _ in range(500):
+            kind = pairs_kind(dice)
+            sheet = end(kind, whole_sheet(kind), 1)
+            for most in (2, 3):
+                told = depths(kind, sheet, most)
+                # Strikes of one round alone are tried enough by other kinds.
+                if max([depth for place, worth, depth in told], default=0) > 1:
+                    deep += 1
+                    self.same_ends(dice, kind, sheet, most, told)
+        self.assertGreater(deep, 20)
+
+    def same_ends(self, dice, kind, sheet, most, told):
+        """The end, whichever way one comes to it, is that of all fillings, one by one."""
+        right = Listed(kind, sheet)
+        lots = lots_for(kind, most)
+        left, many = right.end(sheet, lots)
+        self.assertEqual(right.ready(sheet, lots), [(place, worth) for place, worth, depth in told if depth == 1])
+        self.assertEqual(len(told), many)
+        self.assertEqual(end(kind, sheet, most), left)
+        self.assertEqual(end_for(kind, sheet, tuple(lots)), left)
+        strikes, last = end_by(kind, sheet, most, tuple(dice.randrange(99) for _ in range(many)))
+        self.assertEqual((last, len(strikes)), (left, many))
+        self.assertEqual(led_plainly(self, kind, sheet, row_to_end(kind, sheet, most), most), left)
+        self.assertEqual(left_by(kind, sheet)[most], sum(map(len, left)))
+        needed = tuple(lot for lot in lots if right.end(sheet, [other for other in lots if other != lot])[0] != left)
+        self.assertEqual(needed_lots(kind, sheet, tuple(lots)), needed)
 
     def test_in_rounds_of_some_strikes_none_is_made_earlier(self):
         for dice, kind, sheet in tries(55, 60):

@@ -3,7 +3,7 @@ import itertools
 import random
 import unittest
 
-from helper import (Listed, holds_plainly, latin, led_plainly, lots_for, some_givens, some_kind, some_rule,
+from helper import (Listed, holds_plainly, latin, led_plainly, lots_for, pairs_kind, some_givens, some_kind, some_rule,
                     strikes_in)
 
 from onefilling.ends import covers_for, end, is_cover
@@ -22,27 +22,6 @@ def is_settled(sheet):
     return all(len(lot) == 1 for lot in sheet)
 
 
-def pair_rule(dice, places, filling, worths):
-    """A rule of two places, that does not tell much alone."""
-    one, two = dice.sample(range(places), 2)
-    words = {(filling[one], filling[two])}
-    for _ in range(dice.randint(1, worths * worths // 2 + 1)):
-        words.add((dice.randint(1, worths), dice.randint(1, worths)))
-    both = tuple(sorted((one, two)))
-    low = filling[one] + filling[two]
-    return dice.choice((("words", (one, two), tuple(sorted(words))), ("words", (one, two), tuple(sorted(words))),
-                        ("steps", one, two, 1, 2), ("unlike", both), ("sum", both, low, low + 1)))
-
-
-def pairs_puzzle(dice):
-    """A puzzle of rules that tell little alone, without givens."""
-    kind = dice.choice(((1, 3, 3), (2, 2, 3), (2, 2, 4), (1, 4, 3), (2, 3, 2), (3, 2, 3)))
-    places = kind[0] * kind[1]
-    filling = tuple(dice.randint(1, kind[2]) for _ in range(places))
-    rules = [pair_rule(dice, places, filling, kind[2]) for _ in range(dice.randint(3, 9))]
-    return kind + (tuple(rule for rule in rules if holds_plainly(kind, rule, filling)),), ()
-
-
 def some_puzzle(dice):
     """A puzzle of rules of all sorts, and givens, that mostly hold for one filling."""
     kind = some_kind(dice, 0)
@@ -59,7 +38,7 @@ def puzzles(seed, many):
     """Small puzzles, with all fillings in their begin sheets; most of those that are not so hard are passed over."""
     dice = random.Random(seed)
     for _ in range(many):
-        for kind, givens in (some_puzzle(dice), pairs_puzzle(dice), pairs_puzzle(dice)):
+        for kind, givens in (some_puzzle(dice), (pairs_kind(dice), ()), (pairs_kind(dice), ())):
             if dice.random() < .3 or (hardness((kind, givens)) or 0) > 1:
                 yield dice, kind, givens, Listed(kind, begin((kind, givens)))
 
@@ -181,6 +160,7 @@ class Rows(unittest.TestCase):
                     self.assertIsNone(row, (kind, givens, most))
                     continue
                 left = led_plainly(self, kind, right.sheet, row, most)
+                self.assertEqual(led(kind, right.sheet, row), left)
                 self.assertTrue(is_settled(left))
                 self.assertTrue(fills(kind, tuple(lot[0] for lot in left)))
         self.assertTrue(min(told) > 200, told)

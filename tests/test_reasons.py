@@ -2,8 +2,8 @@
 import random
 import unittest
 
-from helper import (STRANGE, Listed, all_lots, error_of, is_reason_plainly, is_tree_plainly, latin, nested,
-                    some_givens, some_kind, some_sheet, strikes_in, tries, with_worth, without_worth)
+from helper import (STRANGE, Listed, all_lots, error_of, is_reason_plainly, is_tree_plainly, latin, listed, nested,
+                    pairs_kind, some_givens, strikes_in, tries, with_worth, without_worth)
 
 from onefilling import errors
 from onefilling.fillings import is_tree, tree_for
@@ -16,15 +16,6 @@ REASON = ((0, 1), 0, 2, ("cases", 1, (("rule", 0), ("rule", 1))))
 SQUARE = (2, 2, 2, (("unlike", (0, 1)), ("unlike", (0, 2)), ("unlike", (1, 3)), ("unlike", (2, 3))))
 # Three unlike ones of two worths: all three rules together leave nothing.
 RING = (1, 3, 2, (("unlike", (0, 1)), ("unlike", (1, 2)), ("unlike", (0, 2))))
-
-
-def listed(seed, many, voids=0.02, most_rules=4):
-    """Small kinds with sheets, and all fillings in them."""
-    dice = random.Random(seed)
-    for _ in range(many):
-        kind = some_kind(dice, most_rules)
-        sheet = some_sheet(dice, kind, voids)
-        yield dice, kind, sheet, Listed(kind, sheet)
 
 
 def some_strikes(dice, sheet, many):
@@ -146,6 +137,22 @@ class Ranks(unittest.TestCase):
         self.assertTrue(is_reason(kind, whole_sheet(kind), reason_for(kind, whole_sheet(kind), (0, 2), 12)))
         self.assertEqual(strikes_for(kind, whole_sheet(kind), 11), ())
         self.assertEqual(strikes_for(kind, whole_sheet(kind), 12), tuple(strikes_in(whole_sheet(kind))))
+
+
+    def test_of_rules_that_tell_little_alone(self):
+        dice = random.Random(33)
+        told = {}
+        for _ in range(150):
+            kind = pairs_kind(dice)
+            sheet = whole_sheet(kind)
+            right = Listed(kind, sheet)
+            for strike in some_strikes(dice, sheet, 2):
+                least = right.least(sheet, strike)
+                rank = min((len(lot) for lot in least), default=None)
+                self.assertEqual(rank_of(kind, sheet, strike), rank, (kind, strike))
+                self.assertEqual(least_lots(kind, sheet, strike, 12), tuple(least), (kind, strike))
+                told[rank] = told.get(rank, 0) + 1
+        self.assertTrue(all(told[rank] > 2 for rank in (None, 1, 2, 3)), told)
 
 
 class Strikes(unittest.TestCase):
@@ -288,6 +295,12 @@ class Rows(unittest.TestCase):
                 told = error_of(led, kind, sheet, row + (row[at],))
                 self.assertEqual((told.kind, told.told), (errors.InvalidRow, {"index": len(row)}))
         self.assertGreater(many, 200)
+
+    def test_a_wrong_sheet_beside_an_empty_row(self):
+        told = error_of(led, ALIKE, BOTH + BOTH, ())
+        self.assertEqual((told.kind, told.told), (errors.InvalidSheet, {"given": BOTH + BOTH}))
+        told = error_of(led, ALIKE[:3], BOTH + BOTH, ())
+        self.assertEqual((told.kind, told.told), (errors.InvalidKind, {"given": ALIKE[:3]}))
 
     def test_any_value(self):
         for value in STRANGE:
