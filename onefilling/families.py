@@ -68,7 +68,7 @@ def family_of(lots):
     """Those of the lots that are within no other one: nothing more follows from the others."""
     inside = {}
     greatest = []
-    for lot in sorted(lots, key=lambda own: -len(own)):
+    for lot in sorted(lots, key=len, reverse=True):
         if rules_of(lot) not in inside:
             greatest.append(lot)
             _mark(rules_of(lot), inside)
