@@ -24,6 +24,14 @@ def sheet_bits(sheet):
     return [bits_of(lot) for lot in sheet]
 
 
+def begin_bits(kind, givens):
+    """The numbers of the lots of the sheet with these givens: they stand alone, elsewhere all worths."""
+    lots = [(1 << kind[2]) - 1] * (kind[0] * kind[1])
+    for place, worth in givens:
+        lots[place] = worth_bit(worth)
+    return lots
+
+
 def parts_of(bits):
     """The bits of a lot, each alone, ascending."""
     parts = []

@@ -5,6 +5,7 @@ from onefilling.checks import check_kind, check_lot, check_lots, check_most, che
 from onefilling.closing import close, following, is_closed_sheet, row_of
 from onefilling.covers import cover_by, is_cover_for
 from onefilling.families import Family, family_for, family_of
+from onefilling.study import Study
 from onefilling.watch import Watch
 
 
@@ -27,7 +28,7 @@ def end_by(kind, sheet, most, order):
     check_sheet(kind, sheet)
     check_most(most)
     check_order(order)
-    watch = Watch(kind, sheet_bits(sheet), family_for(kind, most))
+    watch = Watch(Study(kind), sheet_bits(sheet), family_for(kind, most))
     made = []
     ready = following(watch)
     while ready:
@@ -99,7 +100,7 @@ def cover_for(kind, sheet, lot):
     check_kind(kind)
     check_sheet(kind, sheet)
     check_lot(kind, lot)
-    watch = Watch(kind, sheet_bits(sheet), Family([lot]))
+    watch = Watch(Study(kind), sheet_bits(sheet), Family([lot]))
     return cover_by(watch, lot) if is_closed_sheet(watch) else None
 
 
@@ -123,7 +124,7 @@ def _watch_for(kind, sheet, most):
     check_kind(kind)
     check_sheet(kind, sheet)
     check_most(most)
-    return Watch(kind, sheet_bits(sheet), family_for(kind, most))
+    return Watch(Study(kind), sheet_bits(sheet), family_for(kind, most))
 
 
 def _check_lots_of(kind, sheet, lots):
@@ -134,6 +135,6 @@ def _check_lots_of(kind, sheet, lots):
 
 def _end_and_lots(kind, sheet, lots):
     """The end, and the lots, ascending, from which strikes were made to come to it."""
-    watch = Watch(kind, sheet_bits(sheet), family_of(lots))
+    watch = Watch(Study(kind), sheet_bits(sheet), family_of(lots))
     used = [watch.family.holder(rules) for place, worth, rules in close(watch)]
     return sheet_of(watch.lots), sorted(set(used))

@@ -7,6 +7,7 @@ MOST_WORDS = 30
 MOST_LENGTHS = 8
 LONGEST = 16
 HIGHEST = 99
+LONGEST_NAME = 12
 
 
 def is_from_0(value):
@@ -198,3 +199,10 @@ def is_strike_form(sheet, value):
     place, worth = value
     # As True is no worth, it is not enough that the worth is in the lot.
     return is_whole(place, 0, len(sheet) - 1) and is_whole(worth, 1, MOST_WORTHS) and worth in sheet[place]
+
+
+def is_name(value):
+    """Whether the value is a text of 1 to 12 small letters."""
+    if not isinstance(value, str) or not 1 <= len(value) <= LONGEST_NAME:
+        return False
+    return all("a" <= letter <= "z" for letter in value)

@@ -7,6 +7,7 @@ from onefilling.ends import end
 from onefilling.families import family_for
 from onefilling.fillings import the_filling
 from onefilling.kinds import begin
+from onefilling.study import Study
 from onefilling.watch import Watch
 
 
@@ -39,7 +40,7 @@ def _way_to_filling(puzzle, most):
     if filling is None:
         return None
     kind = puzzle[0]
-    watch = Watch(kind, sheet_bits(begin(puzzle)), family_for(kind, 0))
+    watch = Watch(Study(kind), sheet_bits(begin(puzzle)), family_for(kind, 0))
     watch.keep(filling)
     steps = []
     for size in range(min(most, len(kind[3])) + 1):

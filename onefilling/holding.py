@@ -82,3 +82,8 @@ def rule_holds(kind, rule, filling):
     """Whether the rule of the kind holds for the filling."""
     told = RULE_HOLDS[rule[0]]
     return told(kind, rule, filling)
+
+
+def fills_all(kind, filling):
+    """Whether all rules of the kind hold for the filling."""
+    return all(rule_holds(kind, rule, filling) for rule in kind[3])

@@ -4,7 +4,7 @@ from onefilling.bits import sheet_bits
 from onefilling.checks import check_filling, check_index, check_kind, check_number, check_place, check_puzzle
 from onefilling.checks import check_sheet, check_worth
 from onefilling.forms import is_filling_form, is_kind_form, is_puzzle_form, is_rule_form, is_sheet_form, places_in
-from onefilling.holding import rule_holds
+from onefilling.holding import fills_all, rule_holds
 from onefilling.keepers import bars, keeper_of
 
 
@@ -49,7 +49,7 @@ def fills(kind, filling):
     """Whether all rules hold for the filling."""
     check_kind(kind)
     check_filling(kind, filling)
-    return all(rule_holds(kind, rule, filling) for rule in kind[3])
+    return fills_all(kind, filling)
 
 
 def lies_in(kind, filling, sheet):

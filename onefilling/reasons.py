@@ -8,6 +8,7 @@ from onefilling.families import family_for, lot_of, lots_up_to, rules_of
 from onefilling.forms import is_lot_of_rules, is_strike_form
 from onefilling.kinds import alone, struck
 from onefilling.search import Search
+from onefilling.study import Study
 from onefilling.trees import is_tree_for
 from onefilling.watch import Watch
 
@@ -37,7 +38,7 @@ def least_lots(kind, sheet, strike, most):
     check_sheet(kind, sheet)
     check_strike(sheet, strike)
     check_most(most)
-    watch = Watch(kind, sheet_bits(sheet), family_for(kind, len(kind[3])))
+    watch = Watch(Study(kind), sheet_bits(sheet), family_for(kind, len(kind[3])))
     found = watch.least_lots(strike[0], strike[1], lots_up_to(kind, most))
     return tuple(sorted([lot for lot in [lot_of(rules) for rules in found] if len(lot) <= most]))
 
@@ -47,7 +48,7 @@ def strikes_for(kind, sheet, most):
     check_kind(kind)
     check_sheet(kind, sheet)
     check_most(most)
-    return tuple(following(Watch(kind, sheet_bits(sheet), family_for(kind, most))))
+    return tuple(following(Watch(Study(kind), sheet_bits(sheet), family_for(kind, most))))
 
 
 def reason_for(kind, sheet, strike, most):
@@ -89,7 +90,7 @@ def led(kind, sheet, row):
 
 
 def _least_rules(kind, sheet, strike, most):
-    watch = Watch(kind, sheet_bits(sheet), family_for(kind, 0))
+    watch = Watch(Study(kind), sheet_bits(sheet), family_for(kind, 0))
     for size in range(min(most, len(kind[3])) + 1):
         # Nothing follows from fewer rules, so what tells it now has just so many.
         watch.turn_to(family_for(kind, size))

@@ -7,26 +7,25 @@ as long as they lie in the sheet. Both stay known, too, when another family is a
 
 from onefilling.bits import lowest_at, parts_of, worth_bit, worths_in
 from onefilling.families import rules_of
-from onefilling.holding import rule_holds
-from onefilling.search import Search
 
 
 class Watch:
     """The lots of a sheet, and the family of lots of rules from one of which strikes are to follow."""
 
-    def __init__(self, kind, lots, family):
-        self.kind = kind
+    def __init__(self, study, lots, family):
+        self.study = study
         self.lots = lots
         self.family = family
-        self.search = Search(kind)
-        self.found = []
+        self.search = study.search
+        self.found = study.found_in(lots)
         self.served = {}
+        self.is_served = False
         self.cores = {}
 
     def turn_to(self, family):
         """Ask for another family from now on."""
         self.family = family
-        self.serve_all()
+        self.is_served = False
 
     def strikes(self):
         """All strikes of the sheet, ascending."""
@@ -36,26 +35,34 @@ class Watch:
         """Make a strike."""
         self.lots[place] -= worth_bit(worth)
         self.found = [(filling, met) for filling, met in self.found if filling[place] != worth]
-        self.serve_all()
+        self.is_served = False
 
     def keep(self, filling):
         """Keep a filling that lies in the sheet, with the rules that it meets."""
-        kind = self.kind
-        met = rules_of([index for index, rule in enumerate(kind[3]) if rule_holds(kind, rule, filling)])
+        met = self.study.pooled(filling)
         self.found.append((filling, met))
-        self.serve(filling, met)
+        if self.is_served:
+            self.serve(filling, met)
 
     def serve(self, filling, met):
-        """A filling serves all its strikes for those lots of the family whose rules it meets."""
+        """A filling serves all its strikes for those lots of the family whose rules it meets; whether it adds any."""
         lots = self.family.within(met)
+        added = 0
         for strike in enumerate(filling):
-            self.served[strike] = self.served.get(strike, 0) | lots
+            before = self.served.get(strike, 0)
+            self.served[strike] = before | lots
+            added |= lots & ~before
+        return added != 0
 
     def serve_all(self):
-        """Tell anew which strikes the fillings serve for which lots of the family."""
+        """Tell anew which strikes the fillings serve for which lots of the family; those that add nothing go."""
         self.served = {}
+        adding = []
         for filling, met in self.found:
-            self.serve(filling, met)
+            if self.serve(filling, met):
+                adding.append((filling, met))
+        self.found = adding
+        self.is_served = True
 
     def is_met(self, place, worth, rules):
         """Whether a filling is known that has the strike and meets the rules."""
@@ -92,6 +99,8 @@ class Watch:
 
     def unserved(self, place, worth):
         """The lots of the family whose rules no filling is known to meet that has the strike."""
+        if not self.is_served:
+            self.serve_all()
         return self.family.everyone & ~self.served.get((place, worth), 0)
 
     def widened(self, wanted, cores):

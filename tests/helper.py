@@ -142,6 +142,14 @@ class Listed:
             ready = self.ready(sheet, lots)
         return sheet, many
 
+    def last(self, sheet, lots):
+        """The end of the sheet, by rounds of all strikes that follow."""
+        ready = self.ready(sheet, lots)
+        while ready:
+            sheet = tuple(tuple(worth for worth in lot if (place, worth) not in ready) for place, lot in enumerate(sheet))
+            ready = self.ready(sheet, lots)
+        return sheet
+
     def least(self, sheet, strike):
         """[14]: all least lots of the strike, ascending."""
         lots = [lot for lot in all_lots(len(self.kind[3])) if self.follows(sheet, lot, strike)]
@@ -338,3 +346,111 @@ STRANGE = (
     nested(59, "x"), nested(58, []), (nested(40), {"a": nested(40)}), tuple(range(1000)), ((1, 2),) * 1000, "x" * 20000,
     object(), len, int, Ellipsis, range(3), frozenset((1, 2)), bytearray(b"x"),
 )
+
+
+def is_settled(sheet):
+    return all(len(lot) == 1 for lot in sheet)
+
+
+def whole_plainly(kind):
+    return (tuple(range(1, kind[2] + 1)),) * (kind[0] * kind[1])
+
+
+def begin_plainly(puzzle):
+    kind, givens = puzzle
+    told = dict(givens)
+    whole = whole_plainly(kind)
+    return tuple((told[place],) if place in told else whole[place] for place in range(len(whole)))
+
+
+def fillings_plainly(puzzle):
+    """All fillings of a puzzle, by the words of [11]."""
+    kind = puzzle[0]
+    return good_in(kind, begin_plainly(puzzle), range(len(kind[3])))
+
+
+def some_full_filling(dice, kind):
+    """A filling that fills the kind; None if there is none."""
+    good = fillings_plainly((kind, ()))
+    return dice.choice(good) if good else None
+
+
+def filled_kinds(seed, many, most_places=6, most_rules=4):
+    """So many pairs of a small kind and a filling that fills it."""
+    dice = random.Random(seed)
+    while many > 0:
+        kind = pairs_kind(dice) if dice.random() < .4 else some_kind(dice, most_rules)
+        if kind[0] * kind[1] <= most_places:
+            kind = kind[:3] + (kind[3][:most_rules],)
+            filling = some_full_filling(dice, kind)
+            if filling is not None:
+                many -= 1
+                yield dice, kind, filling
+
+
+def lots_of_places(kind):
+    return all_lots(kind[0] * kind[1])
+
+
+def least_of_all(lots):
+    """Those of the lots within which no other one lies, ascending."""
+    return tuple(sorted(lot for lot in lots if not any(set(other) < set(lot) for other in lots)))
+
+
+def meets(lot, other):
+    return bool(set(lot) & set(other))
+
+
+def fits_plainly(row, move):
+    """Whether a tuple that has the form of a move fits the row of sheets, by the words of [28]."""
+    if move == ("undo",):
+        return len(row) > 1
+    return len(row[-1][move[1]]) > 1 and move[2] in row[-1][move[1]]
+
+
+def make_plainly(row, move):
+    """The row behind the move."""
+    if move == ("undo",):
+        return row[:-1]
+    make = with_worth if move[0] == "write" else without_worth
+    return row + [make(row[-1], move[1], move[2])]
+
+
+def fitting_moves(row):
+    """All moves that fit the row."""
+    moves = [("undo",)] + [(word, place, worth) for word in ("write", "strike")
+                           for place, worth in strikes_in(row[-1])]
+    return [move for move in moves if fits_plainly(row, move)]
+
+
+def some_game(dice, puzzle, many, undone=.2):
+    """Up to so many moves, each of which fits; undo with this likelihood."""
+    row, moves = [begin_plainly(puzzle)], []
+    while len(moves) < many:
+        fitting = fitting_moves(row)
+        if not fitting:
+            break
+        move = dice.choice(fitting)
+        if len(row) > 1 and (dice.random() < undone or not fitting[1:]):
+            move = ("undo",)
+        elif len(fitting) > 1 and move == ("undo",):
+            move = dice.choice(fitting[1:])
+        row = make_plainly(row, move)
+        moves.append(move)
+    return tuple(moves)
+
+
+def taken_plainly(sheet, move):
+    """The strikes that a write or a strike takes away."""
+    if move[0] == "strike":
+        return [move[1:]]
+    return [(move[1], worth) for worth in sheet[move[1]] if worth != move[2]]
+
+
+def grade_plainly(right, sheet, move):
+    """The grade of a move at a sheet, by the words of [29]; RIGHT lists all fillings."""
+    for most in range(len(right.kind[3]) + 1):
+        left = right.last(sheet, lots_for(right.kind, most))
+        if not any(worth in left[place] for place, worth in taken_plainly(sheet, move)):
+            return most
+    return None

@@ -6,9 +6,9 @@ import unittest
 
 from helper import STRANGE, error_of
 
-from onefilling import ends, errors, fillings, hardness, kinds, reasons, texts
+from onefilling import books, ends, errors, fillings, games, hardness, kinds, makers, reasons, texts, turns
 
-MODULES = (kinds, fillings, texts, reasons, ends, hardness)
+MODULES = (kinds, fillings, texts, reasons, ends, hardness, makers, games, turns, books)
 
 SQUARE = (2, 2, 2, (("unlike", (0, 1)), ("unlike", (0, 2)), ("unlike", (1, 3)), ("unlike", (2, 3))))
 BARE = (1, 2, 2, ())
@@ -47,6 +47,32 @@ BAD_ORDER = ((None, None), ([], None), ("", None), ({}, None), (0, None), ((0,) 
              ((0, None), 1), ((0, 1, "2"), 2), (((0,),), 0), ((5, [0]), 1), ((10 ** 399, -10 ** 399), 1), ((None, -1), 0))
 BAD_PLACES = (None, 0, 17, -1, True, "1", (1,), [1], 10 ** 399)
 BAD_WORTHS = (None, 0, 1, 7, -1, True, "2", (2,), [2], 10 ** 399)
+BAD_FULL = BAD_FILLING + ((1, 1, 2, 2), (1, 1, 1, 1), (2, 1, 2, 1))
+BAD_PLACE_LOT = (None, 0, [0], (4,), (-1,), (1, 0), (0, 0), (True,), (0, None), "0", {0: 1}, ((0,),), (10 ** 399,), (0, 1, 1))
+BAD_PLACES_IN_ORDER = ((None, None), ([], None), ("0123", None), ({}, None), (0, None), ((), None), ((0, 1, 2), None),
+                       ((0, 1, 2, 3, 3), None), ((0, 1, 2, 4), 3), ((0, 1, 1, 2), 2), ((-1, 0, 1, 2), 0), ((1, True, 2, 3), 1),
+                       ((0, 0, 9, None), 1), ((3, 2, 1, None), 3), ((0, [1], 2, 3), 1), ((10 ** 399, 0, 1, 2), 0),
+                       ((False, 1, 2, 3), 0), ((0, 1, 2, "3"), 3))
+STRIKES = (("strike", 1, 1), ("undo",), ("write", 2, 2))
+BAD_MOVES = ((None, None), ([], None), ("undo", None), ({}, None), (0, None), ((None,), 0), ((("undo",),), 0),
+             ((("strike", 0, 1),), 0), ((("write", 1, 1), ("strike", 1, 1)), 1), (STRIKES + (("undo",), ("undo",)), 4),
+             (STRIKES + (("write", 1, 3), None), 3), ((("strike", 1, 1), ["undo"]), 1), (STRIKES[:2] * 101, 200),
+             ((("write", 1, True),), 0), ((("write", 10 ** 399, 1),), 0))
+BAD_MOVE = (None, (), ("undo",), ("write", 0, 1), ("strike", 3, 2), ("write", 1, 3), ("write", 4, 1), ("write", -1, 1),
+            ["write", 1, 1], ("write", 1), ("write", 1, 1, 1), ("Write", 1, 1), ("write", True, 1), ("write", 1, True), "write",
+            (1, 1, 1), (("write",), 1, 1), ("write", [1], 1), ("strike", 1, None), ("strike", 10 ** 399, 1), {}, 1)
+BAD_TURN = (None, (), (0,), (8, (1, 2)), (-1, (1, 2)), (True, (1, 2)), (0, (1, 1)), (0, (1,)), (0, (1, 2, 3)), (0, [1, 2]),
+            [0, (1, 2)], (0, (True, 2)), (0, (1, None)), "0", (0, "12"), (0, (0, 1)), (None, None), (10 ** 399, (1, 2)), {})
+ENTRY = ("one", ((0, 1),))
+BOOK = (SQUARE, (ENTRY,))
+BAD_BOOK = ((None, None), ([], None), ((), None), ((SQUARE,), None), ((SQUARE, [ENTRY]), None), ([SQUARE, (ENTRY,)], None),
+            ((SQUARE[:3], ()), None), ("book", None), ({}, None), ((SQUARE, (ENTRY,) * 61), None), ((SQUARE, (None,)), 0),
+            ((SQUARE, (ENTRY, ENTRY)), 1), ((SQUARE, (ENTRY, ("two", ((3, 2),)))), 1), ((SQUARE, (("one", ()),)), 0),
+            ((SQUARE, ((ENTRY[0], [(0, 1)]), None)), 0), ((SQUARE, ENTRY), 0), ((SQUARE, (("", ((0, 1),)),)), 0),
+            ((SQUARE, (ENTRY, None, None)), 1), ((SQUARE, (["one", ((0, 1),)],)), 0), ((SQUARE, (([], ((0, 1),)),)), 0))
+BAD_NAME = (None, "", "abcdefghijklm", "One", "one ", "o ne", "1", 1, True, b"one", ["o"], ("one",), {}, "\n", "\u00e9", ())
+BAD_TIGHT = (None, (), [(0, 1)], ((0, 1), (3, 1)), ((0, 3),), ((4, 1),), (0, 1), "0=1", ((True, 1),), ((1, 2), (0, 1)), {}, 1,
+             ((0, 1), (0, 1)), ((0, 1, 1),), ([0, 1],), ((0, 1), (3, 2)))
 
 # For each function: its parameters, in order, each with a value that is one, the error, values that are none.
 KIND = ("kind", SQUARE, "InvalidKind", BAD_KIND)
@@ -64,6 +90,13 @@ STRIKE = ("strike", (1, 1), "InvalidStrike", BAD_STRIKE)
 RULES = ("most", 2, "InvalidNumber", BAD_RULES)
 LOTS = ("lots", ((), (0,), (0, 2)), "InvalidLots", BAD_LOTS)
 ORDER = ("order", (1, 0, 10 ** 399), "InvalidOrder", BAD_ORDER)
+FULL = ("filling", FILLING, "InvalidFilling", BAD_FULL)
+PLACE_LOT = ("places", (0, 3), "InvalidLot", BAD_PLACE_LOT)
+MOVES = ("moves", STRIKES, "InvalidMoves", BAD_MOVES)
+TURN = ("turn", (5, (2, 1)), "InvalidTurn", BAD_TURN)
+BOOKS = ("book", BOOK, "InvalidBook", BAD_BOOK)
+FREE_BOOK = ("book", (SQUARE, ()), "InvalidBook", BAD_BOOK)
+NAME = ("name", "one", "InvalidName", BAD_NAME)
 FUNCTIONS = (
     (kinds.is_rule, (("places", 4, "InvalidNumber", BAD_PLACES), ("worths", 3, "InvalidNumber", BAD_WORTHS), VALUE)),
     (kinds.is_kind, (VALUE,)),
@@ -111,9 +144,38 @@ FUNCTIONS = (
     (hardness.hardness, (PUZZLES,)),
     (hardness.row_up_to, (PUZZLES, RULES)),
     (hardness.sheet_above, (PUZZLES, RULES)),
+    (makers.puzzle_from, (KIND, FULL, PLACE_LOT)),
+    (makers.is_told, (KIND, FULL, RULES, PLACE_LOT)),
+    (makers.gaps, (KIND, FULL, RULES)),
+    (makers.tight_lots, (KIND, FULL, RULES)),
+    (makers.fewest, (KIND, FULL, RULES)),
+    (makers.made, (KIND, FULL, RULES, ("order", (3, 1, 0, 2), "InvalidOrder", BAD_PLACES_IN_ORDER))),
+    (makers.idle, (PUZZLES,)),
+    (makers.is_tight, (PUZZLES,)),
+    (games.is_game, (PUZZLES, ("value", STRIKES, None, ()))),
+    (games.sheets, (PUZZLES, MOVES)),
+    (games.grade_of, (KIND, SHEETS, ("move", ("write", 1, 2), "InvalidMove", BAD_MOVE))),
+    (games.grades, (PUZZLES, MOVES)),
+    (games.reasoned, (PUZZLES, MOVES)),
+    (games.hint, (PUZZLES, MOVES)),
+    (games.game_by_hints, (PUZZLES,)),
+    (turns.is_turn, (KIND, ("value", (5, (2, 1)), None, ()))),
+    (turns.turned_kind, (KIND, TURN)),
+    (turns.turned_sheet, (KIND, TURN, SHEETS)),
+    (turns.turned_filling, (KIND, TURN, FILLINGS)),
+    (turns.turned_puzzle, (PUZZLES, TURN)),
+    (turns.undoing, (KIND, TURN)),
+    (turns.keeps, (KIND, TURN)),
+    (turns.least_of, (PUZZLES,)),
+    (books.is_book, (("value", BOOK, None, ()),)),
+    (books.with_puzzle, (FREE_BOOK, NAME, ("givens", ((3, 2),), "InvalidPuzzle", BAD_TIGHT))),
+    (books.without, (BOOKS, NAME)),
+    (books.book_text, (BOOKS,)),
+    (books.book_of, (("text", "floor 1 2\nworths 2\nbelow 0 1\npuzzle one\n", "InvalidText", BAD_TEXT),)),
 )
 # What an error keeps that does not keep the value.
-KEEPS = {"InvalidText": "line", "InvalidRow": "index", "InvalidLots": "index", "InvalidOrder": "index"}
+KEEPS = {"InvalidText": "line", "InvalidRow": "index", "InvalidLots": "index", "InvalidOrder": "index",
+         "InvalidMoves": "index", "InvalidBook": "index"}
 
 
 def good_values(parameters):
@@ -252,7 +314,7 @@ class Arguments(unittest.TestCase):
                     for most in range(13):
                         values[at] = most
                         self.assertIsNone(error_of(function, *values), (function, most))
-                if name == "order":
+                if bad is BAD_ORDER:
                     for order in ((), (0,) * 100, (10 ** 399,) * 100):
                         values[at] = order
                         self.assertIsNone(error_of(function, *values), (function, order))

@@ -76,6 +76,50 @@ HARDNESS = """
 [((1,), (1,)), None, (), ((1, 2), (1, 2)), None, None]
 """
 
+MAKERS = r"""
+>>> from onefilling.makers import fewest, gaps, idle, is_tight, is_told, made, puzzle_from, tight_lots
+>>> lines = ("words", (0, 1, 2), ((1, 1, 1), (1, 2, 3), (1, 3, 3), (3, 2, 2), (3, 2, 3)))
+>>> more = ("words", (3, 4, 5), ((1, 1, 1), (1, 3, 2), (3, 1, 2), (3, 2, 1), (3, 3, 2)))
+>>> page = (2, 3, 3, (lines, more, ("unlike", (2, 5)), ("unlike", (1, 4)), ("count", (0, 1, 2, 3, 4, 5), (3,), 3, 3)))
+>>> said = (1, 2, 3, 3, 3, 2)
+>>> [gaps(page, said, 12), tight_lots(page, said, 12), gaps(page, said, 1), tight_lots(page, said, 1)]
+[((0, 3), (0, 4), (1, 4)), ((0, 1), (0, 4), (3, 4)), ((0, 1, 2), (0, 3), (0, 4), (1, 4)), ((0, 1), (0, 4), (1, 3, 4), (2, 3, 4))]
+>>> [fewest(page, said, 12), made(page, said, 1, (0, 1, 2, 3, 4, 5)), made(page, said, 12, (0, 1, 2, 3, 4, 5)), is_told(page, said, 1, (3, 4)), puzzle_from(page, said, (3, 4))[1], is_tight(puzzle_from(page, said, (3, 4)))]
+[2, (2, 3, 4), (3, 4), False, ((3, 3), (4, 3)), True]
+>>> [gaps(alike, (1, 1), 2), tight_lots(alike, (1, 1), 2), gaps(alike, (1, 1), 1), fewest(alike, (1, 1), 0), idle((alike, ((0, 1),))), idle((square, ((0, 1),)))]
+[(), ((),), ((0, 1),), 2, (0,), ()]
+"""
+
+GAMES = r"""
+>>> from onefilling.games import game_by_hints, grade_of, grades, hint, is_game, reasoned, sheets
+>>> first, second = ("strike", 0, 2), ("strike", 1, 2)
+>>> [hint((alike, ()), ()), game_by_hints((alike, ())) == (first, second), grades((alike, ()), (first, second)), reasoned((alike, ()), (first, ("undo",), second)), reasoned((alike, ()), (("write", 0, 2),))]
+[('strike', 0, 2), True, (2, 1), 2, None]
+>>> [sheets((alike, ()), (first, ("undo",))), is_game((alike, ()), (("undo",),)), is_game((alike, ()), (first, ("write", 0, 1))), grade_of(alike, both, ("write", 1, 1))]
+[(((1, 2), (1, 2)), ((1,), (1, 2)), ((1, 2), (1, 2))), False, False, 2]
+>>> start = ((1, 2, 3), (1, 2, 3), (1, 2, 3), (3,), (3,), (1, 2, 3))
+>>> [hint((page, ((3, 3), (4, 3))), ()), grade_of(page, start, ("write", 0, 1)), grade_of(page, start, ("write", 5, 2)), grade_of(page, start, ("write", 0, 3)), len(game_by_hints((page, ((3, 3), (4, 3))))), reasoned((page, ((3, 3), (4, 3))), game_by_hints((page, ((3, 3), (4, 3)))))]
+[('strike', 0, 2), 2, 1, None, 8, 2]
+"""
+
+TURNS = r"""
+>>> from onefilling.turns import is_turn, keeps, least_of, turned_filling, turned_kind, turned_puzzle, turned_sheet, undoing
+>>> pair, turn = (1, 2, 3, (("words", (0, 1), ((1, 2), (3, 1))),)), (1, (2, 3, 1))
+>>> [turned_kind(pair, turn), turned_filling(pair, turn, (3, 1)), turned_sheet(pair, turn, ((1, 3), (1,))), undoing(pair, turn), turned_puzzle((pair, ((0, 3),)), turn)[1]]
+[(1, 2, 3, (('words', (1, 0), ((1, 2), (2, 3))),)), (2, 1), ((2,), (1, 2)), (1, (3, 1, 2)), ((1, 1),)]
+>>> [is_turn(alike, (0, (2, 1))), is_turn(square, (4, (2, 1))), keeps(square, (4, (2, 1))), keeps(pair, turn), least_of((square, ((3, 2),))), undoing(square, (5, (1, 2)))]
+[False, True, True, False, ((0, 1),), (6, (1, 2))]
+"""
+
+BOOKS = r"""
+>>> from onefilling.books import book_of, book_text, is_book, with_puzzle, without
+>>> book = with_puzzle((square, ()), "one", ((0, 1),))
+>>> [book_text(book)[-16:], book_of(book_text(book)) == book, without(book, "one") == (square, ()), is_book((square, (("one", ()),)))]
+['\npuzzle one 0=1\n', True, True, False]
+>>> with_puzzle(book, "two", ((3, 2),))
+raises Alike(given='one')
+"""
+
 
 def outcome(source, names):
     """What an example shows: what it prints, or the error that it raises, as the document writes it."""
@@ -121,6 +165,22 @@ class Examples(unittest.TestCase):
 
     def test_hardness(self):
         self.assertEqual(tried([KINDS, REASONS, ENDS, HARDNESS]), (24, []))
+
+    def test_makers(self):
+        self.assertEqual(tried([KINDS, REASONS, MAKERS]), (24, []))
+
+    def test_games(self):
+        self.assertEqual(tried([KINDS, REASONS, MAKERS, GAMES]), (30, []))
+
+    def test_turns(self):
+        self.assertEqual(tried([KINDS, REASONS, TURNS]), (20, []))
+
+    def test_books(self):
+        self.assertEqual(tried([KINDS, BOOKS]), (12, []))
+
+    def test_all_of_them_in_order(self):
+        texts = [KINDS, FILLINGS, TEXTS, REASONS, ENDS, HARDNESS, MAKERS, GAMES, TURNS, BOOKS]
+        self.assertEqual(tried(texts), (56, []))
 
     def test_a_wrong_answer_is_noticed(self):
         for text, shown in ((">>> 1 + 1\n3\n", "2\n"), (">>> 1 + 1\nraises ValueError()\n", "2\n"),

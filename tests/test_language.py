@@ -17,7 +17,7 @@ BUILTINS = {"len", "range", "enumerate", "zip", "min", "max", "sum", "abs", "sor
 METHODS = {"append", "clear", "copy", "count", "endswith", "extend", "find", "get", "index", "insert", "isalnum",
            "isalpha", "isdigit", "items", "join", "keys", "lower", "pop", "remove", "replace", "reverse", "rfind",
            "setdefault", "split", "splitlines", "startswith", "strip", "update", "upper", "values", "zfill",
-           "bit_length", "add", "isascii"}
+           "bit_length", "add", "isascii", "partition"}
 WORDS = ("type", "typing", "typing_extensions", "enum", "Enum", "IntEnum", "StrEnum", "Flag", "IntFlag", "Generic",
          "Protocol", "ABC", "ABCMeta", "namedtuple", "NamedTuple", "TypedDict", "TYPE_CHECKING", "abstractmethod")
 BARRED = {"register", "mro", "elements", "open", "input", "law", "version_info", "with_traceback", "add_note",
