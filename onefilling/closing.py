@@ -21,15 +21,16 @@ def is_closed_sheet(watch):
 def close(watch):
     """Make strikes until none follows: of each, in order, its place, its worth, rules from which it follows."""
     steps = []
-    step = _next_step(watch)
+    step = next_step(watch)
     while step is not None:
         steps.append(step)
         watch.make(step[0], step[1])
-        step = _next_step(watch)
+        step = next_step(watch)
     return steps
 
 
-def _next_step(watch):
+def next_step(watch):
+    """Of any strike that follows its place, its worth, rules from which it follows; None if none follows."""
     # What one rule tells alone is soon found, and makes what is left easier.
     step = _easy_step(watch)
     if step is not None:

@@ -1,5 +1,6 @@
 """Covers: fillings that meet a lot's rules, such that each worth of a sheet is in one of them."""
 
+from onefilling.closing import is_closed_sheet
 from onefilling.families import rules_of
 from onefilling.forms import is_filling_form
 from onefilling.holding import rule_holds
@@ -20,6 +21,13 @@ def cover_by(watch, lot):
         if added:
             cover.append(filling)
     return tuple(cover)
+
+
+def covers_by(watch):
+    """The covers for all lots of the watch's family; None if a strike follows from one of them."""
+    if not is_closed_sheet(watch):
+        return None
+    return tuple([cover_by(watch, lot) for lot in watch.family.lots])
 
 
 def is_cover_for(kind, sheet, lot, value):

@@ -3,7 +3,7 @@
 from onefilling.bits import sheet_bits, sheet_of
 from onefilling.checks import check_kind, check_lot, check_lots, check_most, check_order, check_sheet
 from onefilling.closing import close, following, is_closed_sheet, row_of
-from onefilling.covers import cover_by, is_cover_for
+from onefilling.covers import cover_by, covers_by, is_cover_for
 from onefilling.families import Family, family_for, family_of
 from onefilling.study import Study
 from onefilling.watch import Watch
@@ -114,10 +114,7 @@ def is_cover(kind, sheet, lot, value):
 
 def covers_for(kind, sheet, most):
     """The tuple of any covers, one for each lot that is asked of for MOST; None if the sheet is not closed for it."""
-    watch = _watch_for(kind, sheet, most)
-    if not is_closed_sheet(watch):
-        return None
-    return tuple([cover_by(watch, lot) for lot in watch.family.lots])
+    return covers_by(_watch_for(kind, sheet, most))
 
 
 def _watch_for(kind, sheet, most):

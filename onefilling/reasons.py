@@ -1,15 +1,15 @@
 """Reasons: from which rules strikes follow, and the trees that show it."""
 
-from onefilling.bits import sheet_bits
+from onefilling.bits import sheet_bits, sheet_of, worth_bit
 from onefilling.checks import check_kind, check_lot, check_most, check_sheet, check_strike
 from onefilling.closing import following, reason_of
 from onefilling.errors import InvalidRow
 from onefilling.families import family_for, lot_of, lots_up_to, rules_of
-from onefilling.forms import is_lot_of_rules, is_strike_form
-from onefilling.kinds import alone, struck
+from onefilling.forms import MOST_RULES
+from onefilling.judge import Judge
+from onefilling.kinds import alone
 from onefilling.search import Search
 from onefilling.study import Study
-from onefilling.trees import is_tree_for
 from onefilling.watch import Watch
 
 
@@ -67,12 +67,7 @@ def is_reason(kind, sheet, value):
     """Whether the value, whatever it is, is a reason for the sheet."""
     check_kind(kind)
     check_sheet(kind, sheet)
-    if not isinstance(value, tuple) or len(value) != 4:
-        return False
-    lot, place, worth, tree = value
-    if not is_lot_of_rules(kind, lot) or not is_strike_form(sheet, (place, worth)):
-        return False
-    return is_tree_for(kind, alone(kind, sheet, place, worth), lot, tree)
+    return Judge(kind).is_reason(sheet_bits(sheet), value, MOST_RULES)
 
 
 def led(kind, sheet, row):
@@ -81,12 +76,13 @@ def led(kind, sheet, row):
     check_sheet(kind, sheet)
     if not isinstance(row, tuple):
         raise InvalidRow(None)
-    behind = sheet
+    judge = Judge(kind)
+    behind = sheet_bits(sheet)
     for at, reason in enumerate(row):
-        if not is_reason(kind, behind, reason):
+        if not judge.is_reason(behind, reason, MOST_RULES):
             raise InvalidRow(at)
-        behind = struck(kind, behind, reason[1], reason[2])
-    return behind
+        behind[reason[1]] -= worth_bit(reason[2])
+    return sheet_of(behind)
 
 
 def _least_rules(kind, sheet, strike, most):

@@ -9,8 +9,12 @@ DEEPEST = 20
 
 def is_tree_for(kind, sheet, lot, value):
     """Whether the value is a tree for both."""
-    keepers = {index: keeper_of(kind, kind[3][index]) for index in lot}
-    return _is_tree(keepers, sheet_bits(sheet), DEEPEST, value)
+    return is_tree_by({index: keeper_of(kind, kind[3][index]) for index in lot}, sheet_bits(sheet), value)
+
+
+def is_tree_by(keepers, lots, value):
+    """Whether the value is a tree for the lots and the rules whose keepers these are, by their indexes."""
+    return _is_tree(keepers, lots, DEEPEST, value)
 
 
 def _is_tree(keepers, lots, depth, value):

@@ -6,9 +6,11 @@ import unittest
 
 from helper import STRANGE, error_of
 
-from onefilling import books, ends, errors, fillings, games, hardness, kinds, makers, reasons, texts, turns
+from onefilling import (books, certificates, checker, console, ends, errors, fillings, games, hardness, kinds, makers,
+                        reasons, shown, texts, turns)
 
-MODULES = (kinds, fillings, texts, reasons, ends, hardness, makers, games, turns, books)
+MODULES = (kinds, fillings, texts, reasons, ends, hardness, makers, games, turns, books, shown, console, checker,
+           certificates)
 
 SQUARE = (2, 2, 2, (("unlike", (0, 1)), ("unlike", (0, 2)), ("unlike", (1, 3)), ("unlike", (2, 3))))
 BARE = (1, 2, 2, ())
@@ -71,6 +73,9 @@ BAD_BOOK = ((None, None), ([], None), ((), None), ((SQUARE,), None), ((SQUARE, [
             ((SQUARE, ((ENTRY[0], [(0, 1)]), None)), 0), ((SQUARE, ENTRY), 0), ((SQUARE, (("", ((0, 1),)),)), 0),
             ((SQUARE, (ENTRY, None, None)), 1), ((SQUARE, (["one", ((0, 1),)],)), 0), ((SQUARE, (([], ((0, 1),)),)), 0))
 BAD_NAME = (None, "", "abcdefghijklm", "One", "one ", "o ne", "1", 1, True, b"one", ["o"], ("one",), {}, "\n", "\u00e9", ())
+BAD_SHOWN = (None, "", "one", "Hills", "hills ", b"hills", ["hills"], ("hills",), 0, True, {}, "hill", 10 ** 399)
+BAD_COMMANDS = ((None, None), ([], None), ("hint", None), ({}, None), (0, None), ((None,), 0), (("hint", b"hint"), 1),
+                ((("hint",),), 0), (("hint",) * 101, 100), (("", "", ["hint"], None), 2), ((True,), 0))
 BAD_TIGHT = (None, (), [(0, 1)], ((0, 1), (3, 1)), ((0, 3),), ((4, 1),), (0, 1), "0=1", ((True, 1),), ((1, 2), (0, 1)), {}, 1,
              ((0, 1), (0, 1)), ((0, 1, 1),), ([0, 1],), ((0, 1), (3, 2)))
 
@@ -171,11 +176,26 @@ FUNCTIONS = (
     (books.with_puzzle, (FREE_BOOK, NAME, ("givens", ((3, 2),), "InvalidPuzzle", BAD_TIGHT))),
     (books.without, (BOOKS, NAME)),
     (books.book_text, (BOOKS,)),
+    (shown.shown_names, ()),
+    (shown.shown, (("name", "paths", "InvalidName", BAD_SHOWN),)),
+    (console.said, (("commands", ("show hills", "hint", "?"), "InvalidCommands", BAD_COMMANDS),)),
+    (checker.accepts, (("claim", ("fills", SQUARE, FILLING), None, ()), ("paper", (), None, ()))),
+    (certificates.certify_fillings, (PUZZLES,)),
+    (certificates.certify_follows, (KIND, SHEETS, LOT, STRIKE)),
+    (certificates.certify_least, (KIND, SHEETS, STRIKE, RULES)),
+    (certificates.certify_end, (KIND, SHEETS, RULES)),
+    (certificates.certify_hard, (PUZZLES, RULES)),
+    (certificates.certify_hardness, (PUZZLES,)),
+    (certificates.certify_tight, (PUZZLES,)),
+    (certificates.certify_gap, (KIND, FULL, RULES)),
+    (certificates.certify_fewest, (KIND, FULL, RULES)),
+    (certificates.certify_game, (PUZZLES, MOVES)),
+    (certificates.certify_turned, (PUZZLES, TURN)),
     (books.book_of, (("text", "floor 1 2\nworths 2\nbelow 0 1\npuzzle one\n", "InvalidText", BAD_TEXT),)),
 )
 # What an error keeps that does not keep the value.
 KEEPS = {"InvalidText": "line", "InvalidRow": "index", "InvalidLots": "index", "InvalidOrder": "index",
-         "InvalidMoves": "index", "InvalidBook": "index"}
+         "InvalidMoves": "index", "InvalidBook": "index", "InvalidCommands": "index"}
 
 
 def good_values(parameters):
@@ -243,7 +263,7 @@ class Arguments(unittest.TestCase):
 
     def test_a_wrong_kind_comes_ahead_of_what_fits_no_kind(self):
         for function, parameters in FUNCTIONS:
-            if parameters[0][0] in ("kind", "puzzle"):
+            if parameters and parameters[0][0] in ("kind", "puzzle"):
                 values = [None] + [{}] * (len(parameters) - 1)
                 self.wrong(function, parameters, values, parameters[0][2], None)
 
