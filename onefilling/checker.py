@@ -2,8 +2,8 @@
 
 from onefilling.bits import begin_bits, sheet_bits, worth_bit
 from onefilling.families import rules_of
-from onefilling.forms import MOST_RULES, is_ascending, is_filling_form, is_from_0, is_kind_form, is_lot_of_rules
-from onefilling.forms import is_puzzle_form, is_sheet_form, is_strike_form, is_whole, places_in
+from onefilling.forms import MOST_RULES, is_ascending, is_from_0, is_kind_form, is_lot_of_rules, is_puzzle_form
+from onefilling.forms import is_sheet_form, is_strike_form, is_whole, places_in
 from onefilling.gaptrees import is_tree_of_gaps
 from onefilling.judge import Judge, alone_at, filling_of, is_settled, loose_places
 from onefilling.moves import is_undo, make_in_row, taken_by, wrong_move

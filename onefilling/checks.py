@@ -2,8 +2,7 @@
 
 from onefilling.bits import begin_bits, sheet_bits
 from onefilling.errors import InvalidFilling, InvalidKind, InvalidLot, InvalidLots, InvalidMove, InvalidMoves
-from onefilling.errors import InvalidName, InvalidNumber, InvalidOrder, InvalidPuzzle, InvalidSheet, InvalidStrike
-from onefilling.errors import InvalidTurn
+from onefilling.errors import InvalidNumber, InvalidOrder, InvalidPuzzle, InvalidSheet, InvalidStrike, InvalidTurn
 from onefilling.forms import MOST_RULES, is_filling_form, is_from_0, is_kind_form, is_lot_of_rules, is_puzzle_form
 from onefilling.forms import is_ascending, is_sheet_form, is_strike_form, is_whole, places_in
 from onefilling.holding import fills_all

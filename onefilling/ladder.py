@@ -50,7 +50,7 @@ class Ladder:
 
     def first_gone(self, most):
         """The first strike that fits and whose worth the end for MOST has not; None."""
-        for place, lot, left in zip(range(len(self.lots)), self.lots, self.end_for(most)):
+        for place, (lot, left) in enumerate(zip(self.lots, self.end_for(most))):
             if BITS_IN[lot] > 1 and lot & ~left:
                 return "strike", place, lowest_worth(lot & ~left)
         return None

@@ -3,7 +3,7 @@
 Of a filling it is kept which rules it meets. So for another sheet in which it lies, too, it is not searched once more.
 """
 
-from onefilling.bits import sheet_bits, worth_bit
+from onefilling.bits import worth_bit
 from onefilling.families import family_for, rules_of
 from onefilling.holding import rule_holds
 from onefilling.search import Search

@@ -42,7 +42,7 @@ class Telling:
         least = gap
         for bit in parts_of(gap):
             if bit & least:
-                # All places but the rest of the gap: what gap they don't meet lies within the rest.
+                # Asked of this place and all outside of the gap: if they don't tell it, a gap lies within the others.
                 inner = self.loose_at((self.everywhere & ~least) | bit)
                 least = inner if inner else least
         return least

@@ -2,7 +2,7 @@
 import random
 
 from helper import pairs_kind, some_full_filling, some_game, some_givens, some_kind, some_sheet, strikes_in, whole_plainly
-from test_turns import turns_of
+from turned import turns_of
 
 from onefilling.certificates import (certify_end, certify_fewest, certify_fillings, certify_follows, certify_game,
                                      certify_gap, certify_hard, certify_hardness, certify_least, certify_tight,

@@ -392,6 +392,14 @@ def lots_of_places(kind):
     return all_lots(kind[0] * kind[1])
 
 
+def sheets_with(kind, filling):
+    """All sheets of the kind in which the filling lies."""
+    whole = whole_plainly(kind)
+    lots = [[tuple(sorted((worth,) + more)) for size in range(kind[2]) for more in
+             itertools.combinations([other for other in whole[0] if other != worth], size)] for worth in filling]
+    return itertools.product(*lots)
+
+
 def least_of_all(lots):
     """Those of the lots within which no other one lies, ascending."""
     return tuple(sorted(lot for lot in lots if not any(set(other) < set(lot) for other in lots)))

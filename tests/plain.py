@@ -7,6 +7,7 @@ import itertools
 from helper import (Listed, all_lots, begin_plainly, fillings_plainly, fits_plainly, grade_plainly, holds_plainly,
                     is_cover_plainly, is_inside, is_number, is_reason_plainly, is_settled, is_tree_plainly, lots_for,
                     make_plainly, strikes_in, taken_plainly, whole_plainly, with_worth, without_worth)
+from turned import givens_plainly, kind_plainly
 
 from onefilling.kinds import is_filling, is_kind, is_puzzle, is_sheet
 from onefilling.turns import is_turn
@@ -181,7 +182,6 @@ def is_so(claim):
 
 def turns_to(puzzle, other, turn):
     """Whether the value is a turn that leads the puzzle to the other one, the rules in any order."""
-    from test_turns import givens_plainly, kind_plainly
     if not is_turn(puzzle[0], turn):
         return False
     turned = kind_plainly(puzzle[0], turn)

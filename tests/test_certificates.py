@@ -6,7 +6,7 @@ from certified import WORDS, certified, some_claims, some_small_kind, some_told_
 from helper import (Listed, error_of, filled_kinds, fillings_plainly, grade_plainly, is_settled, latin, listed, lots_for,
                     pairs_kind, some_game, some_givens, some_kind, strikes_in, whole_plainly)
 from plain import accepts_plainly, hardness_plainly, is_claim, is_so
-from test_turns import turns_of
+from turned import turns_of
 
 from onefilling import errors
 from onefilling.certificates import (certify_end, certify_fewest, certify_fillings, certify_follows, certify_game,

@@ -3,9 +3,9 @@ import itertools
 import random
 import unittest
 
-from helper import (Listed, all_lots, begin_plainly, error_of, filled_kinds, fillings_plainly, is_inside, is_settled,
-                    latin, least_of_all, lots_for, lots_of_places, meets, some_givens, some_kind, whole_plainly,
-                    without_worth)
+from helper import (Listed, begin_plainly, error_of, filled_kinds, fillings_plainly, is_inside, is_settled,
+                    latin, least_of_all, lots_for, lots_of_places, meets, sheets_with, some_givens,
+                    whole_plainly)
 
 from onefilling import errors
 from onefilling.ends import end
@@ -32,14 +32,6 @@ def tells_plainly(right, filling, most, places):
 
 def telling_plainly(right, filling, most):
     return [lot for lot in lots_of_places(right.kind) if tells_plainly(right, filling, most, lot)]
-
-
-def sheets_with(kind, filling):
-    """All sheets of the kind in which the filling lies."""
-    whole = whole_plainly(kind)
-    lots = [[tuple(sorted((worth,) + more)) for size in range(kind[2]) for more in
-             itertools.combinations([other for other in whole[0] if other != worth], size)] for worth in filling]
-    return itertools.product(*lots)
 
 
 def gaps_plainly(right, filling, most):

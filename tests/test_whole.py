@@ -4,7 +4,8 @@ import unittest
 
 from certified import some_small_kind
 from helper import (Listed, all_lots, begin_plainly, fillings_plainly, filled_kinds, is_settled, least_of_all, lots_for,
-                    lots_of_places, meets, pairs_kind, some_givens, some_sheet, strikes_in)
+                    lots_of_places, meets, pairs_kind, sheets_with, some_givens, some_sheet,
+                    strikes_in, whole_plainly)
 
 from onefilling.certificates import (certify_end, certify_fewest, certify_fillings, certify_follows, certify_game,
                                      certify_gap, certify_hard, certify_hardness, certify_tight)
@@ -150,6 +151,32 @@ class NoGivenTooMany(unittest.TestCase):
             for lot in tight_lots(kind, filling, 1):
                 one = hardness(puzzle_from(kind, filling, lot))
                 self.assertIn(one, (0, 1))
+
+
+class TreesOfGaps(unittest.TestCase):
+    def test_there_is_one_exactly_if_no_lot_of_fewer_places_tells_it(self):
+        told = [0, 0]
+        for dice, kind, filling in filled_kinds(1010, 60, 4, 4):
+            if kind[2] ** (kind[0] * kind[1]) > 81:
+                continue
+            right = Listed(kind, whole_plainly(kind))
+            for most in (0, 1, 2, 12):
+                closed = [sheet for sheet in sheets_with(kind, filling) if not right.ready(sheet, lots_for(kind, most))]
+                loose = {tuple(place for place, lot in enumerate(sheet) if len(lot) > 1) for sheet in closed} - {()}
+                few = fewest(kind, filling, most)
+                for many in range(1, len(filling) + 1):
+                    self.assertIs(has_tree(loose, many, ()), few >= many, (kind, filling, most, many))
+                    told[few >= many] += 1
+        self.assertTrue(min(told) > 50, told)
+
+
+def has_tree(loose, many, settled):
+    """Whether there is a tree of gaps for these settled places, LOOSE being the unsettled places of all closed sheets."""
+    for gap in loose:
+        if not meets(gap, settled):
+            if len(settled) == many - 1 or all(has_tree(loose, many, settled + (place,)) for place in gap):
+                return True
+    return False
 
 
 class Papers(unittest.TestCase):
